@@ -1,0 +1,1 @@
+"""Unseenheap: programs that see nothing of the heap they run on."""
