@@ -125,12 +125,20 @@ class Open(unittest.TestCase):
 
     def test_curly_ones(self):
         for head in ("if a {", "while a {", "try {", "try { } catch a {", "fun () {", "say fun() {", "if a { } else {"):
-            self.assertEqual(told(read, head * 60 + "\nclass"), ("BadText", 2), head)
-            self.assertEqual(told(read, head * 60 + "\n" + head), ("BadText", 2), head)
-            self.assertEqual(told(read, head * 59 + "\n" + head + "\n" + head), ("BadText", 3), head)
-        self.assertEqual(told(read, "class a { m() {" + "if a {" * 58 + "\n\nif b {"), ("BadText", 3))
-        self.assertEqual(told(read, "fun f() {" + "if a {" * 59 + "\n\nif b {"), ("BadText", 3))
+            self.assertEqual(told(read, head * 59 + head + "\n\n"), ("BadText", 3), head)
+            self.assertEqual(told(read, head * 60 + "\n)"), ("BadText", 2), head)
+            self.assertEqual(told(read, head * 60 + "\n" + head + "\n\n"), ("BadText", 2), head)
+        self.assertEqual(told(read, "class A { m() {" + "if a {" * 58 + "\nif b {\n\n"), ("BadText", 2))
+        self.assertEqual(told(read, "class A { m() {" + "if a {" * 58 + "\nif b\n\n"), ("BadText", 4))
+        self.assertEqual(told(read, "fun f() {" + "if a {" * 59 + "\nif b {\n\n"), ("BadText", 2))
         self.assertEqual(told(read, "if a {" * 60 + "}" * 60), ("TooDeep",))
+
+    def test_each_closing_one_closes_one(self):
+        for opening, closing in (("(a", ")"), ("[", "]"), ("fun() {", "}"), ("f(", ")"), ("a[0", "]")):
+            text = "[" * 59 + opening + closing + "\n,[\n"
+            self.assertEqual(told(read, text), ("BadText", 3), text)
+            self.assertEqual(told(read, text + "[\n"), ("BadText", 3), text)
+            self.assertEqual(told(read, text + "[\n\n"), ("BadText", 3), text)
 
     def test_what_is_closed_does_not_count(self):
         self.assertEqual(len(read("a();" * 100)), 100)

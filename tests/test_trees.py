@@ -225,6 +225,29 @@ class Depths(unittest.TestCase):
         ):
             self.assertEqual(repr(depth(read(text))), repr(deep_as), text)
 
+    def test_each_place_within_counts(self):
+        """Whichever of a form's inner parts is the deepest one tells its depth."""
+        words = ("or", "and", "==", "!=", "<", "<=", ">", ">=", "+", "-", "*", "/", "mod")
+        forms = [lambda x, y, word=word: (word, x, y) for word in words]
+        forms += [
+            lambda x, y: ("list", (x, y)), lambda x, y: ("call", x, (y,)), lambda x, y: ("call", NIL, (x, y)),
+            lambda x, y: ("send", x, "m", (y,)), lambda x, y: ("send", NIL, "m", (x, y)), lambda x, y: ("up", "m", (x, y)),
+            lambda x, y: ("new", "A", (x, y)), lambda x, y: ("item", x, y),
+        ]
+        for form in forms:
+            for many in (1, 2, 10):
+                self.assertEqual(depth((("say", form(deep(many), NIL)),)), many + 2)
+                self.assertEqual(depth((("say", form(NIL, deep(many))),)), many + 2)
+        forms = [
+            lambda x, y: ("set", ("field", x, "a"), ("not", y)), lambda x, y: ("if", x, (("say", y),), ()),
+            lambda x, y: ("if", x, (), (("say", y),)), lambda x, y: ("while", x, (("say", y),)),
+            lambda x, y: ("try", (("say", x),), "a", (("say", y),)),
+        ]
+        for form in forms:
+            for many in (3, 10):
+                self.assertEqual(depth((form(NIL, deep(many)),)), many + 2)
+                self.assertIn(depth((form(deep(many), NIL),)), (many + 1, many + 2))
+
     def test_the_deepest(self):
         self.assertEqual(depth((("say", deep(49)),)), 50)
         self.assertEqual(told(depth, (("say", deep(50)),)), ("NoProgram",))
