@@ -15,7 +15,16 @@ INTERFACE = {
     "lexing": "words",
     "trees": "is_program depth",
     "reading": "read",
+    "showing": "show",
+    "names": "name_faults faults_by_line meanings names called_anew are_alike",
+    "plain": "Plain",
+    "words": "word tag_of payload_of",
+    "compiling": "compiled",
+    "units": "Code Unit is_row takes lays fields method",
+    "examine": "refused refutal is_let is_paper is_refutal table stretch",
+    "rooms": "Room",
 }
+METHODS_LISTED = {("plain", "Plain"): "run ticks is_over lines ends made"}
 LIBRARY = {
     "heapq": "heappush heappop heapify heapreplace heappushpop", "math": "gcd lcm isqrt comb perm factorial",
     "itertools": "product combinations permutations chain accumulate pairwise islice zip_longest",
@@ -109,6 +118,13 @@ class Language(unittest.TestCase):
     def test_interface_is_defined_where_it_is_listed(self):
         for name, listed in INTERFACE.items():
             defined = [node.name for node in self.files[name][1].body if isinstance(node, (ast.FunctionDef, ast.ClassDef))]
+            for word in listed.split():
+                self.assertIn(word, defined, name)
+
+    def test_methods_stand_in_the_class_that_lists_them(self):
+        for (name, listing), listed in METHODS_LISTED.items():
+            found = [node for node in self.files[name][1].body if isinstance(node, ast.ClassDef) and node.name == listing]
+            defined = [node.name for node in found[0].body if isinstance(node, ast.FunctionDef)]
             for word in listed.split():
                 self.assertIn(word, defined, name)
 

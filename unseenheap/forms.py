@@ -72,3 +72,8 @@ def shape_of(sort, word):
     if sort == "place" and word not in PLACES:
         return None
     return EXPRESSIONS.get(word)
+
+
+def shape_within(word):
+    """The sorts of what stands behind a word at the head of a statement or an expression."""
+    return STATEMENTS[word] if word in STATEMENTS else EXPRESSIONS[word]

@@ -1,7 +1,7 @@
 """Trees of programs: whether a thing is one, and how deep it is."""
 
 from unseenheap.errors import NoProgram
-from unseenheap.forms import ASKED, EXPRESSIONS, METHOD, ROWS, STATEMENTS, shape_of
+from unseenheap.forms import ASKED, METHOD, ROWS, shape_of, shape_within
 from unseenheap.kinds import is_integer
 from unseenheap.lexing import GREATEST, is_name, is_plain
 
@@ -111,9 +111,8 @@ def outermost(program):
 
 def within(node):
     """The statements and expressions just within a statement or an expression, as they stand."""
-    shape = STATEMENTS[node[0]] if node[0] in STATEMENTS else EXPRESSIONS[node[0]]
     found = []
-    for sort, part in zip(shape, node[1:]):
+    for sort, part in zip(shape_within(node[0]), node[1:]):
         if sort == "e" or sort == "place":
             found.append(part)
         elif sort == "args" or sort == "block":
