@@ -1,0 +1,116 @@
+"""Units drawn by chance, most of which are let by or nearly so."""
+
+import random
+
+from unseenheap.units import Code, Unit
+
+TEXTS = ("", "ab")
+TOPS = (("a", None), ("f", 1))
+CLASSES = (("A", None, ("x",), (("m", 2),)), ("B", 0, (), ()))
+STRAIGHT = [
+    ("tick",), ("push", ("nil",)), ("push", ("int", 3)), ("push", ("bool", True)), ("text", 1), ("load", 0), ("load", 1), ("store", 0), ("store", 1),
+    ("cell", 0), ("cell", 1), ("peek", 0), ("peek", 1), ("poke", 0), ("see", 0), ("set", 0), ("name", 0), ("keep", 1), ("fun", 1, ()),
+    ("fun", 3, ((0, 0),)), ("fun", 3, ((0, 1),)), ("fun", 3, ((1, 0),)), ("new", 1), ("get", "x"), ("put", "x"), ("list", 1), ("list", 2), ("at",),
+    ("putat",), ("len",), ("not",), ("add",), ("eq",), ("pop",), ("dup",), ("say",), ("call", 0), ("send", "m", 0), ("up", 1, "m", 0), ("spawn",), ("join",),
+]
+EVEN = [("tick",), ("push", ("nil",)), ("pop",), ("dup",), ("load", 0), ("store", 0), ("cell", 0), ("peek", 0), ("load", 1), ("store", 1), ("add",)]
+
+
+def drawn_rows(chance, many):
+    rows = [("tick",)]
+    depth = 0
+    for at in range(1, many):
+        roll = chance.random()
+        if roll < 0.12:
+            rows.append(("jump", aim(chance, rows, at, many)))
+        elif roll < 0.3 and depth:
+            rows.append(("skip", aim(chance, rows, at, many)))
+            depth -= 1
+        elif roll < 0.34 and depth:
+            rows.append((chance.choice(["give", "throw"]),))
+        elif roll < 0.45:
+            rows.append(("tick",))
+        else:
+            row = chance.choice(STRAIGHT if chance.random() < 0.6 else EVEN)
+            if depth == 0 and row[0] in ("pop", "dup", "store", "poke", "set", "keep", "get", "put", "at", "not", "add", "len", "say", "eq", "call") \
+                    and chance.random() < 0.95:
+                row = ("push", ("nil",))
+            if row[0] == "push":
+                depth += 1
+            if row[0] in ("pop", "store", "poke", "keep", "say"):
+                depth = max(0, depth - 1)
+            rows.append(row)
+    rows += [("push", ("nil",)), ("give",)]
+    return tuple(rows)
+
+
+def aim(chance, rows, at, many):
+    ticks = [row for row, words in enumerate(rows) if words[0] == "tick"]
+    if chance.random() < 0.4:
+        return chance.choice(ticks)
+    if chance.random() < 0.95:
+        return chance.randrange(at + 1, many + 2)
+    return chance.randrange(0, many + 4)
+
+
+def drawn_handlers(chance, rows):
+    found = []
+    for _ in range(chance.choice([0, 0, 1, 1, 2])):
+        begin = chance.randrange(0, len(rows) - 1)
+        end = chance.randrange(begin + 1, len(rows) + 1)
+        at = chance.randrange(min(end, len(rows) - 1), len(rows)) if chance.random() < 0.8 else chance.randrange(0, len(rows) + 1)
+        found.append((begin, end, at, chance.choice([0, 0, 0, 0, 1])))
+    return tuple(found)
+
+
+def drawn_code(chance, name, params, slots, keeps):
+    rows = drawn_rows(chance, chance.randrange(1, 12))
+    return Code(name, params, slots, keeps, rows, drawn_handlers(chance, rows))
+
+
+def drawn_unit(seed):
+    """A unit of four codes; 1 and 2 are the simplest, so that what is drawn is seen in 0 and 3."""
+    chance = random.Random(seed)
+    simple = (("tick",), ("push", ("nil",)), ("give",))
+    return Unit(TEXTS, TOPS, CLASSES, (
+        drawn_code(chance, "top", 0, chance.choice([2, 2, 2, 0]), 0), Code("f", 0, 0, 0, simple, ()), Code("A.m", 1, 1, 0, simple, ()),
+        drawn_code(chance, "fun", chance.randrange(3), 2, 1) if chance.random() < 0.5 else Code("fun", 0, 0, 1, simple, ()),
+    ))
+
+
+def level_unit(seed):
+    """A unit of one code in which only the sorts of slots can go wrong: its blocks begin and end with an empty pile."""
+    chance = random.Random(seed)
+    many = chance.randrange(3, 9)
+    blocks = [[("tick",)]]
+    for _ in range(many):
+        slot = chance.randrange(2)
+        blocks.append(list(chance.choice([
+            [("load", slot), ("pop",)], [("push", ("nil",)), ("store", slot)], [("push", ("nil",)), ("store", slot)],
+            [("push", ("nil",)), ("store", slot), ("cell", slot)], [("push", ("nil",)), ("store", slot), ("cell", slot)],
+            [("cell", slot)], [("peek", slot), ("pop",)], [("fun", 1, ((0, slot),)), ("pop",)],
+            [("push", ("nil",)), ("poke", slot)], [("push", ("nil",)), ("skip", None)], [("push", ("nil",)), ("skip", None)],
+            [("push", ("nil",)), ("skip", None)], [("jump", None)], [("tick",)], [("tick",)], [("land",), ("pop",)],
+        ])))
+    begins, total = [], 0
+    for block in blocks:
+        begins.append(total)
+        total += len(block)
+    rows, landings = [], []
+    for number, block in enumerate(blocks):
+        for row in block:
+            if row == ("land",):
+                landings.append((number, begins[number] + 1))
+                row = ("jump", begins[number] + 2)
+            if len(row) == 2 and row[1] is None:
+                aims = [begin for begin in begins if begin > len(rows) or begin < total and blocks[begins.index(begin)][0] == ("tick",)]
+                row = (row[0], chance.choice([*aims, total]))
+            rows.append(row)
+    handlers = []
+    for number, at in landings:
+        begin = chance.randrange(number)
+        end = chance.randrange(begin + 1, number + 1)
+        handlers.append((begins[begin], begins[end], at, 0))
+    rows += [("push", ("nil",)), ("give",)]
+    keeping = Code("fun", 0, 0, 1, (("tick",), ("push", ("nil",)), ("give",)), ())
+    return Unit((), (), (), (Code("top", 0, 2, 0, tuple(rows), tuple(handlers)), keeping))
