@@ -203,6 +203,17 @@ class Refutals(unittest.TestCase):
                     ("set", (("to", 0),), None), ("set", (("on", 1),), None), ("set", (("on", 0, 0),), None), ("set", ("on", 0), None), ("set", BEGIN, None)]:
             self.assertIs(is_refutal(DONE, 0, odd), False, repr(odd)[:60])
 
+    def test_ways_go_through_no_row_that_is_not_well_set(self):
+        for row in (("text", 5), ("name", 0), ("new", 0), ("see", 0), ("fun", 0, ()), ("load", 2), ("fun", 1, ((0, 9),))):
+            unit = bare([("tick",), row, ("pop",), ("pop",), *END])
+            way = (BEGIN, ("on", 1), ("on", 2), ("on", 3))
+            self.assertIs(is_refutal(unit, 0, ("done", way, None)), False, row)
+            self.assertIs(is_refutal(unit, 0, ("set", way[:2], None)), True, row)
+            self.assertIs(is_refutal(unit, 0, ("set", way, None)), False, row)
+            self.assertEqual(refutal(unit, 0), ("set", way[:2], None))
+        unit = bare([("tick",), ("load", 0), ("pop",), ("pop",), *END])
+        self.assertIs(is_refutal(unit, 0, ("done", (BEGIN, ("on", 1), ("on", 2), ("on", 3)), None)), True)
+
     def test_flags_in_the_place_of_rows(self):
         unit = bare([("tick",), ("pop",), *END])
         self.assertIs(is_refutal(unit, 0, ("done", (BEGIN, ("on", 1)), None)), True)

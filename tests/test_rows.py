@@ -99,7 +99,7 @@ class Rows(unittest.TestCase):
         for value in (
             ("int", 2 ** 59), ("int", -2 ** 59 - 1), ("int", True), ("int", None), ("int", "1"), ("int",), ("bool", 1), ("bool", 0), ("bool",),
             ("bool", None), ("nil", None), ("fault", "Kind"), ("fault", ""), ("fault", 0), ("fault", None), ("fault", ["kind"]), ("fault",),
-            ("thread", 0), ("thing", 1), ("text", "a"), ("list", 0), (), ("",), "nil", None, 1, True, (None,), (("nil",),), nested(240), ("int", (1,)),
+            ("thread", 0), ("thing", 1), ("text", "a"), ("thing", "kind"), ("thread", "stuck"), ("nil", "kind"), ("int", "kind"), ("list", 0), (), ("",), "nil", None, 1, True, (None,), (("nil",),), nested(240), ("int", (1,)),
         ):
             rejected(self, ("push", value))
 

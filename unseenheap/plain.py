@@ -42,8 +42,11 @@ class Plain:
         """What the threads gave or threw, None for those that are not over."""
         found = []
         for thread in self.inner.threads:
-            word = thread.state[0]
-            found.append((word, self.inner.line_of(thread.state[1])) if word in ("gave", "threw") else None)
+            if thread.result is None:
+                found.append(None)
+            else:
+                word, value = thread.result
+                found.append((word, self.inner.line_of(value)))
         return found
 
     def made(self):

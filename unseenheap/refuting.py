@@ -53,28 +53,27 @@ def refutal_of(judge):
         return ("meet", (*found.way_to(at), found.unlike_door), found.way_to(found.unlike_door[1]))
     if found.refused_for == "set" or not judge.has_depth(at, found.states[at][0]):
         return (found.refused_for, found.way_to(at), None)
-    for slot, sort in judge.wanted_sorts(at):
-        if found.states[at][1][slot] != sort:
-            return ("done", cut(judge, way_with(judge, at, slot, sort)), None)
-    return None
+    lacking = [(slot, sort) for slot, sort in judge.wanted_sorts(at) if found.states[at][1][slot] != sort]
+    slot, sort = lacking[0]
+    return ("done", cut(judge, way_with(judge, at, slot, sort)), None)
 
 
 def way_with(judge, at, slot, barred):
-    """Steps to a row behind which a slot has another sort than one; whether their rows can be done is not asked."""
-    # Each place is a row, with the sort that the slot has there; it tells whence it was come to.
-    whence = {(0, "value"): None}
-    waiting = [(0, "value")]
-    while waiting:
+    """Steps to a row at which a slot has not this sort; whether the rows ahead can be done is not asked."""
+    # A place is a row with the sort that the slot has there. Other slots are left out, so places are few. One such as
+    # is looked for is there, as a table has no sort, or "unset", but for ways that bring it.
+    place = (0, "value")
+    whence = {place: None}
+    waiting = []
+    while place[0] != at or place[1] == barred:
+        doors = judge.doors(place[0]) if judge.is_well_set(place[0]) else []
+        for door, to in doors:
+            led = (to, sort_led(judge, place, door, slot))
+            if led not in whence:
+                whence[led] = (place, door)
+                waiting.append(led)
         place = waiting.pop()
-        if place[0] == at and place[1] != barred:
-            return steps_to(whence, place)
-        if judge.is_well_set(place[0]):
-            for door, to in judge.doors(place[0]):
-                led = (to, sort_led(judge, place, door, slot))
-                if led not in whence:
-                    whence[led] = (place, door)
-                    waiting.append(led)
-    return (BEGIN,)
+    return steps_to(whence, place)
 
 
 def sort_led(judge, place, door, slot):
@@ -97,10 +96,10 @@ def steps_to(whence, place):
 
 
 def cut(judge, steps):
-    """Steps up to the first row, each of which is well set, that can't be done in the state with which they come."""
+    """Steps up to the first row that can't be done in the state with which they come; all rows are well set."""
     state = judge.first_state()
-    for many, (_, at) in enumerate(steps, start=1):
-        if not judge.can_be_done(at, state) or many == len(steps):
-            return steps[:many]
-        state = judge.state_led(at, steps[many][0], state)
-    return steps
+    many = 1
+    while judge.can_be_done(steps[many - 1][1], state):
+        state = judge.state_led(steps[many - 1][1], steps[many][0], state)
+        many += 1
+    return steps[:many]

@@ -8,7 +8,6 @@ from unseenheap.things import Things
 from unseenheap.values import NIL, fault, plain_line
 
 MOST_CALLS = 200
-READY = ("ready",)
 
 
 class Call:
@@ -30,11 +29,11 @@ class Call:
 
 
 class Thread:
-    """A thread: its calls, the first one first, and whether it is ready, waits, gave or threw something."""
+    """A thread: its calls, the first one first, and, when it is over, what it gave or threw."""
 
     def __init__(self, call):
         self.calls = [call]
-        self.state = READY
+        self.result = None
 
 
 class Run:
@@ -54,14 +53,12 @@ class Run:
             self.top_values.append(NIL if code is None else self.things.add("function", code, []))
         self.threads = [Thread(Call(NIL, placed.codes[0], []))]
         self.queue = [0]
+        # For each thread that waits the one that it waits for.
+        self.awaited = {}
 
     def has_ended(self):
         """Whether no thread is ready, and none waits."""
-        return not self.queue and not self.waiting()
-
-    def waiting(self):
-        """The numbers of the threads that wait."""
-        return [number for number, thread in enumerate(self.threads) if thread.state[0] == "waits"]
+        return not self.queue and not self.awaited
 
     def call_under_way(self):
         """The last call of the thread that runs."""
@@ -83,7 +80,8 @@ class Run:
         found = [("thing", k + 1) for k in range(len(self.placed.texts))]
         found.extend(self.top_values)
         for thread in self.threads:
-            found.extend(thread.state[1:] if thread.state[0] in ("gave", "threw") else ())
+            if thread.result is not None:
+                found.append(thread.result[1])
             for call in thread.calls:
                 found.extend([call.function, *call.slots, *call.pile])
         return found
@@ -130,24 +128,25 @@ class Run:
             calls.pop()
         self.end_thread(("threw", value))
 
-    def end_thread(self, state):
+    def end_thread(self, result):
         """End the thread that runs; those that wait for it are ready."""
         ended = self.queue.pop(0)
-        self.threads[ended].state = state
-        for number, thread in enumerate(self.threads):
-            if thread.state == ("waits", ended):
-                thread.state = READY
-                self.queue.append(number)
+        self.threads[ended].result = result
+        for number in [number for number in sorted(self.awaited) if self.awaited[number] == ended]:
+            self.make_ready(number)
 
     def wait_for(self, number):
         """Let the thread that runs wait for another one."""
-        self.threads[self.queue.pop(0)].state = ("waits", number)
+        self.awaited[self.queue.pop(0)] = number
+
+    def make_ready(self, number):
+        """Let a thread wait no more."""
+        del self.awaited[number]
+        self.queue.append(number)
 
     def free_least(self):
         """Let the least thread that waits go on, as none is ready; its join throws stuck."""
-        least = self.waiting()[0]
-        self.threads[least].state = READY
-        self.queue.append(least)
+        self.make_ready(min(list(self.awaited)))
         self.throw(fault("stuck"))
 
     def value_at(self, call, place):

@@ -150,14 +150,14 @@ def then_spawn(run, call, _task):
 def then_join(run, call, task):
     """Behind the thread that is waited for; done anew when this thread goes on."""
     value = call.pile[-1]
-    state = run.threads[value[1]].state if value[0] == "thread" else ("threw", fault("kind"))
-    if state[0] == "gave":
-        call.pile[-1] = state[1]
-    elif state[0] == "threw":
-        run.throw(state[1])
-    else:
+    result = run.threads[value[1]].result if value[0] == "thread" else ("threw", fault("kind"))
+    if result is None:
         call.work.append(task)
         run.wait_for(value[1])
+    elif result[0] == "gave":
+        call.pile[-1] = result[1]
+    else:
+        run.throw(result[1])
 
 
 def call_step(_run, call, task):
