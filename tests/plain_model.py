@@ -61,8 +61,9 @@ def throw(name):
 class Var:
     """A variable of one code."""
 
-    def __init__(self, name):
+    def __init__(self, name, code):
         self.name, self.celled = name, False
+        code.made.append(self)
 
 
 class CodeMade:
@@ -70,6 +71,7 @@ class CodeMade:
 
     def __init__(self, name, around):
         self.name, self.around, self.params, self.captured, self.block = name, around, [], [], ()
+        self.made = []
 
 
 class Resolver:
@@ -81,6 +83,7 @@ class Resolver:
         self.methods = {}
         self.functions = {}
         self.top = CodeMade("top", None)
+        self.codes = [self.top]
         block = []
         for item in program:
             if item[0] == "class":
@@ -96,7 +99,8 @@ class Resolver:
 
     def code(self, name, params, block, around, scopes, klass):
         made = CodeMade(name, around)
-        made.params = [Var(param) for param in params]
+        self.codes.append(made)
+        made.params = [Var(param, made) for param in params]
         scope = {var.name: (var, made) for var in made.params}
         made.block = self.statements(block, made, [*scopes, scope], klass)
         return made
@@ -110,8 +114,8 @@ class Resolver:
     def statement(self, node, code, scopes, klass):
         word = node[0]
         if word == "var":
+            var = Var(node[1], code)
             value = self.e(node[2], code, scopes, klass)
-            var = Var(node[1])
             scopes[-1][node[1]] = (var, code)
             return ("var", var, value)
         if word == "if":
@@ -121,7 +125,7 @@ class Resolver:
             return ("while", self.e(node[1], code, scopes, klass), self.block(node[2], code, scopes, klass))
         if word == "try":
             block = self.block(node[1], code, scopes, klass)
-            var = Var(node[2])
+            var = Var(node[2], code)
             return ("try", block, var, self.statements(node[3], code, [*scopes, {node[2]: (var, code)}], klass))
         return (word, *[self.e(part, code, scopes, klass) for part in node[1:]])
 
@@ -163,6 +167,18 @@ class Resolver:
             else:
                 parts.append(part)
         return (word, *parts)
+
+
+def names_told(program):
+    """What names tells of a program without faults, told a second time."""
+    found = []
+    for code in Resolver(program).codes:
+        captured = []
+        for var in code.captured:
+            own = var in code.around.made
+            captured.append((var.name, (0, code.around.made.index(var)) if own else (1, code.around.captured.index(var))))
+        found.append((code.name, len(code.params), tuple((var.name, var.celled) for var in code.made), tuple(captured)))
+    return tuple(found)
 
 
 class Frame:

@@ -154,6 +154,8 @@ class Rows(unittest.TestCase):
 
     def test_choices_and_rounds(self):
         self.check("var i = 0; while i < 4 { if i == 1 { say 1; } else { say 2; } if i == 2 { } if i == 3 { } else { } if nil { } else { say 3; } i = i + 1; }")
+        self.check("var i = 0; while i < 3 { i = i + 1; var k = 0; while k < 4 { k = k + 1; if k == 2 { continue; } if k == 4 { break; } say k; }"
+                   " if i == 2 { continue; } say i; while true { while true { break; } break; } }")
         self.check("while true { while true { break; } break; } while false { } if true { } if nil { say 1; }")
 
     def test_break_and_continue_within_a_try_within_a_loop(self):

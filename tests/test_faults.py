@@ -201,6 +201,10 @@ class Lines(unittest.TestCase):
             (2, "unknown", "a"), (5, "unknown", "b"), (9, "class", "C"), (10, "this", "this"), (12, "loop", "continue"),
         ])
 
+    def test_texts_and_notes_are_no_words_of_names(self):
+        self.assertEqual(faults_by_line('say "this";\n"super"; "break"; "continue"; "return"; "a"; # this a\nsay a;\n5;\nthis;\n"this";\nreturn\nb;'),
+                         [(3, "unknown", "a"), (5, "this", "this"), (7, "return", "return"), (8, "unknown", "b")])
+
     def test_errors(self):
         for odd in NO_STRINGS:
             self.assertEqual(told(faults_by_line, odd), ("NoText",), repr(odd)[:60])

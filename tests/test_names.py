@@ -3,6 +3,7 @@
 import unittest
 
 from tests.drawn_programs import drawn
+from tests.plain_model import names_told
 from tests.sample_trees import Maker
 from tests.told import NO_STRINGS, nested, nested_dict, nested_list, told
 from unseenheap.names import are_alike, called_anew, meanings, name_faults, names
@@ -366,6 +367,17 @@ class Facts(unittest.TestCase):
                     self.assertEqual(found[code][3][place[1]][0], "this" if name == "super" else name)
                 elif place[0] in ("slot", "cell"):
                     self.assertEqual(found[code][2][place[1]], ("this" if name == "super" else name, place[0] == "cell"))
+
+    def test_names_told_a_second_time(self):
+        many = 0
+        for seed in range(400):
+            self.assertEqual(names(drawn(seed)), names_told(drawn(seed)))
+        for seed in range(4000):
+            program = Maker(seed).program(5)
+            if not name_faults(program):
+                self.assertEqual(names(program), names_told(program))
+                many += len(names(program)) > 2
+        self.assertGreater(many, 25)
 
     def test_programs_by_chance_have_names_or_faults(self):
         for seed in range(600):

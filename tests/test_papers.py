@@ -200,7 +200,10 @@ class Refutals(unittest.TestCase):
         good = refutal(DONE, 0)
         for odd in [*NO_PAPERS, list(good), good[:2], (*good, None), (*good[:1], list(good[1]), None), ("Set", *good[1:]), (None, *good[1:]), (0, *good[1:]),
                     (["done"], *good[1:]), ("done", (), None), ("done", None, None), ("set", (("on", False),), None), ("set", (["on", 0],), None),
-                    ("set", (("to", 0),), None), ("set", (("on", 1),), None), ("set", (("on", 0, 0),), None), ("set", ("on", 0), None), ("set", BEGIN, None)]:
+                    ("set", (("to", 0),), None), ("set", (("on", 1),), None), ("set", (("on", 0, 0),), None), ("set", ("on", 0), None), ("set", BEGIN, None),
+                    ("done", (*good[1][:-1], (*good[1][-1], 0)), None), ("done", (BEGIN, ("on", 1, 1), ("on", 2), ("on", 3)), None),
+                    ("done", (BEGIN, ("on",), ("on", 2), ("on", 3)), None), ("done", (BEGIN, "on", ("on", 2), ("on", 3)), None),
+                    ("done", (BEGIN, (1, "on"), ("on", 2), ("on", 3)), None), ("done", (BEGIN, (None, 1), ("on", 2), ("on", 3)), None)]:
             self.assertIs(is_refutal(DONE, 0, odd), False, repr(odd)[:60])
 
     def test_ways_go_through_no_row_that_is_not_well_set(self):

@@ -39,6 +39,16 @@ class Order(unittest.TestCase):
         self.assertEqual(order("len(l(1))"), ["1", "3"])
         self.assertEqual(order("o(1).x"), ["1", "nil"])
 
+    def test_values_that_wait_beneath(self):
+        for text, wanted in (("1 and 2", "2"), ("nil or 3", "3"), ("5 or 3", "5"), ("false and 2", "false"), ("join(t)", "7"),
+                             ("new R(4).x", "4"), ("new P().x", "nil"), ("yield()", "nil"), ("-3", "-3"), ("len([1])", "1"), ("f()", "6")):
+            for beneath in ("nil", "9", "[8]"):
+                self.assertEqual(
+                    said("class P { x; } class R { x; init(a) { this.x = a; } } fun f() { return 6; } var t = spawn(fun() { return 7; });"
+                         f" var l = [{beneath}, {text}, {text}, 1]; say l[1]; say l[2]; say l[3]; say l[0] == nil or l[0] == 9 or l[0][0] == 8;"),
+                    [wanted, wanted, "1", "true"], text,
+                )
+
     def test_what_is_set(self):
         self.assertEqual(does("l(1)[n(2)] = n(3);"), ["1", "2", "3"])
         self.assertEqual(does("o(1).x = n(2); say p.x;"), ["1", "2", "2"])

@@ -79,6 +79,14 @@ class Sweeps(unittest.TestCase):
         self.assertEqual(swept(ahead + "k([1]) and y();", many=9), ["nil"])
         self.assertEqual(swept(ahead + "not k([1]) or y();", many=9), ["nil"])
 
+    def test_values_that_waited_when_something_was_thrown_are_gone(self):
+        ahead = "var t = nil; fun k(a) { t = weak(a); return a; } "
+        self.assertEqual(swept(ahead + "try { [k([1]), nil()]; } catch e { yield(); say worth(t); }", many=9), ["nil"])
+        self.assertEqual(swept(ahead + "fun f() { throw 1; } try { [k([1]), f()]; } catch e { } yield(); say worth(t);", many=9), ["nil"])
+        self.assertEqual(swept(ahead + "fun f() { [k([1]), nil()]; } try { f(); } catch e { } yield(); say worth(t);", many=9), ["nil"])
+        text = "fun f() { try { [k([1]), nil()]; } catch e { } yield(); say worth(t); return 2; } say f();"
+        self.assertEqual(swept(ahead + text, many=9), ["nil", "2"])
+
     def test_the_new_object_waits(self):
         ahead = "var t = nil; fun y() { yield(); say worth(t); return 1; } "
         self.assertEqual(swept(ahead + "class A { init(a) { this_(this); } } fun this_(a) { t = weak(a); a = nil; y(); } new A(1);", many=9), ["object A"])

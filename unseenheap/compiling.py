@@ -33,13 +33,13 @@ def code_of(placed, number):
     """The code of a number."""
     source = placed.codes[number]
     maker = RowMaker()
-    maker.add("tick")
+    maker.lay_row("tick")
     for at in range(source.many):
         if source.cells[at]:
-            maker.add("cell", at)
+            maker.lay_row("cell", at)
     make_block(placed, maker, source.block)
-    maker.add(*NIL_ROW)
-    maker.add("give")
+    maker.lay_row(*NIL_ROW)
+    maker.lay_row("give")
     rows, handlers = tuple(maker.laid_rows), tuple(maker.found_handlers)
     return Code(source.name, source.many, len(source.cells), len(source.captured), rows, handlers)
 
@@ -61,7 +61,7 @@ def make(placed, maker, node):
     if node[0] in BEHIND:
         make_all(placed, maker, node[1:])
         for word in BEHIND[node[0]]:
-            maker.add(word)
+            maker.lay_row(word)
     else:
         handler = MAKERS[node[0]]
         handler(placed, maker, node)
@@ -69,45 +69,45 @@ def make(placed, maker, node):
 
 def make_number(_placed, maker, node):
     """An integer."""
-    maker.add("push", ("int", node[1]))
+    maker.lay_row("push", ("int", node[1]))
 
 
 def make_text(_placed, maker, node):
     """A text of the unit."""
-    maker.add("text", node[1])
+    maker.lay_row("text", node[1])
 
 
 def make_key(_placed, maker, node):
     """The keys true, false and nil."""
-    maker.add("push", ("nil",) if node[0] == "nil" else ("bool", node[0] == "true"))
+    maker.lay_row("push", ("nil",) if node[0] == "nil" else ("bool", node[0] == "true"))
 
 
 def make_name(_placed, maker, node):
     """A variable that is read."""
     word, at = node[1]
-    maker.add(LOADS[word], at)
+    maker.lay_row(LOADS[word], at)
 
 
 def make_fun(placed, maker, node):
     """A new function."""
-    maker.add("fun", node[1], placed.codes[node[1]].captured)
+    maker.lay_row("fun", node[1], placed.codes[node[1]].captured)
 
 
 def make_list(placed, maker, node):
     """A list."""
     make_all(placed, maker, node[1])
-    maker.add("list", len(node[1]))
+    maker.lay_row("list", len(node[1]))
 
 
 def make_either(placed, maker, node):
     """The words and, or: the first value is on the pile twice while it is looked at."""
     word, one, other = node
     make(placed, maker, one)
-    maker.add("dup")
+    maker.lay_row("dup")
     if word == "or":
-        maker.add("not")
-    end = maker.add("skip", 0)
-    maker.add("pop")
+        maker.lay_row("not")
+    end = maker.lay_row("skip", 0)
+    maker.lay_row("pop")
     make(placed, maker, other)
     maker.land(end)
 
@@ -115,7 +115,7 @@ def make_either(placed, maker, node):
 def make_field(placed, maker, node):
     """A field."""
     make(placed, maker, node[1])
-    maker.add("get", node[2])
+    maker.lay_row("get", node[2])
 
 
 def make_ask(placed, maker, node):
@@ -123,47 +123,47 @@ def make_ask(placed, maker, node):
     _, key, args = node
     make_all(placed, maker, args)
     if key == "yield":
-        maker.add("tick")
-        maker.add(*NIL_ROW)
+        maker.lay_row("tick")
+        maker.lay_row(*NIL_ROW)
     else:
-        maker.add(key)
+        maker.lay_row(key)
 
 
 def make_call(placed, maker, node):
     """A call of a function."""
     _, head, args = node
     make_all(placed, maker, (head, *args))
-    maker.add("call", len(args))
+    maker.lay_row("call", len(args))
 
 
 def make_send(placed, maker, node):
     """A message to an object."""
     _, head, name, args = node
     make_all(placed, maker, (head, *args))
-    maker.add("send", name, len(args))
+    maker.lay_row("send", name, len(args))
 
 
 def make_up(placed, maker, node):
     """A message to the elder."""
     _, place, number, name, args = node
     make_all(placed, maker, (("this", place), *args))
-    maker.add("up", number, name, len(args))
+    maker.lay_row("up", number, name, len(args))
 
 
 def make_new(placed, maker, node):
     """A new object, which stays on the pile while its init is called."""
     _, number, args = node
-    maker.add("new", number)
+    maker.lay_row("new", number)
     has_init = method_of(placed.classes, number, "init") is not None
     if has_init:
-        maker.add("dup")
+        maker.lay_row("dup")
     make_all(placed, maker, args)
     if has_init:
-        maker.add("send", "init", len(args))
-        maker.add("pop")
+        maker.lay_row("send", "init", len(args))
+        maker.lay_row("pop")
     elif args:
-        maker.add("push", ("fault", "count"))
-        maker.add("throw")
+        maker.lay_row("push", ("fault", "count"))
+        maker.lay_row("throw")
 
 
 def make_var(placed, maker, node):
@@ -176,10 +176,10 @@ def make_variable(maker, place):
     """A variable gets its first value; it is in a new cell, if in any."""
     word, at = place
     if word == "cell":
-        maker.add("store", at)
-        maker.add("cell", at)
+        maker.lay_row("store", at)
+        maker.lay_row("cell", at)
     else:
-        maker.add(STORES[word], at)
+        maker.lay_row(STORES[word], at)
 
 
 def make_set(placed, maker, node):
@@ -188,23 +188,23 @@ def make_set(placed, maker, node):
     if place[0] == "name":
         word, at = place[1]
         make(placed, maker, value)
-        maker.add(STORES[word], at)
+        maker.lay_row(STORES[word], at)
     elif place[0] == "field":
         make_all(placed, maker, (place[1], value))
-        maker.add("put", place[2])
+        maker.lay_row("put", place[2])
     else:
         make_all(placed, maker, (place[1], place[2], value))
-        maker.add("putat")
+        maker.lay_row("putat")
 
 
 def make_if(placed, maker, node):
     """A choice."""
     _, value, block, other = node
     make(placed, maker, value)
-    choice = maker.add("skip", 0)
+    choice = maker.lay_row("skip", 0)
     make_block(placed, maker, block)
     if other:
-        end = maker.add("jump", 0)
+        end = maker.lay_row("jump", 0)
         maker.land(choice)
         make_block(placed, maker, other)
         maker.land(end)
@@ -216,9 +216,9 @@ def make_while(placed, maker, node):
     """A loop: each round goes back to the tick ahead of the look."""
     _, value, block = node
     maker.open_loop()
-    maker.add("tick")
+    maker.lay_row("tick")
     make(placed, maker, value)
-    look = maker.add("skip", 0)
+    look = maker.lay_row("skip", 0)
     make_block(placed, maker, block)
     maker.leave_round()
     maker.land(look)
@@ -241,7 +241,7 @@ def make_try(placed, maker, node):
     end = maker.here()
     # In an empty block nothing is thrown, and no handler stands around no rows.
     if begin < end:
-        behind = maker.add("jump", 0)
+        behind = maker.lay_row("jump", 0)
         maker.handle(begin, end)
         make_variable(maker, place)
         make_block(placed, maker, other)

@@ -14,7 +14,7 @@ def worked_out(things, word, parts):
 
 def listed(things, _word, parts):
     """A list."""
-    return things.add("list", None, parts)
+    return things.make_thing("list", None, parts)
 
 
 def added(things, word, parts):
@@ -26,7 +26,7 @@ def added(things, word, parts):
     joined = things.thing_of(one).parts + things.thing_of(other).parts
     if len(joined) > MOST_PARTS:
         return thrown("overflow")
-    return things.add(sort, None, joined)
+    return things.make_thing(sort, None, joined)
 
 
 def calculated(_things, word, parts):
@@ -98,7 +98,7 @@ def item_of(things, _word, parts):
     inner = things.thing_of(one).parts
     if not 0 <= at[1] < len(inner):
         return thrown("index")
-    return inner[at[1]] if sort == "list" else things.add("text", None, inner[at[1]])
+    return inner[at[1]] if sort == "list" else things.make_thing("text", None, inner[at[1]])
 
 
 def length(things, _word, parts):
@@ -112,7 +112,7 @@ def tied(things, _word, parts):
     """A tie to a thing."""
     if parts[0][0] != "thing":
         return thrown("kind")
-    return things.add("tie", None, [parts[0]])
+    return things.make_thing("tie", None, [parts[0]])
 
 
 def worth_of(things, _word, parts):

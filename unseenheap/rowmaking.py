@@ -12,7 +12,7 @@ class RowMaker:
         self.found_handlers = []
         self.loops = []
 
-    def add(self, *row):
+    def lay_row(self, *row):
         """Lay a row behind the others; its number."""
         self.laid_rows.append(row)
         return len(self.laid_rows) - 1
@@ -31,11 +31,11 @@ class RowMaker:
 
     def leave_round(self):
         """Go back to the begin of the innermost loop."""
-        self.add("jump", self.loops[-1][START])
+        self.lay_row("jump", self.loops[-1][START])
 
     def leave_loop(self):
         """Go on behind the innermost loop."""
-        self.loops[-1][ENDS].append(self.add("jump", 0))
+        self.loops[-1][ENDS].append(self.lay_row("jump", 0))
 
     def close_loop(self):
         """End with a loop: what leaves it goes on at the row that will be next."""

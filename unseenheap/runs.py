@@ -47,10 +47,10 @@ class Run:
         self.said = []
         self.things = Things()
         for text in placed.texts:
-            self.things.add("text", None, text)
+            self.things.make_thing("text", None, text)
         self.top_values = []
         for _, code in placed.tops:
-            self.top_values.append(NIL if code is None else self.things.add("function", code, []))
+            self.top_values.append(NIL if code is None else self.things.make_thing("function", code, []))
         self.threads = [Thread(Call(NIL, placed.codes[0], []))]
         self.queue = [0]
         # For each thread that waits the one that it waits for.
@@ -177,7 +177,7 @@ class Run:
         """Make the variable at a place, which has a new cell if it is in one."""
         word, at = place
         if word == "cell":
-            call.slots[at] = self.things.add("cell", None, [value])
+            call.slots[at] = self.things.make_thing("cell", None, [value])
         else:
             self.set_variable(call, place, value)
 

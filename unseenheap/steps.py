@@ -58,7 +58,7 @@ def fun_step(run, call, task):
     cells = []
     for where, at in run.placed.codes[task[1]].captured:
         cells.append(run.cell_at(call, ("cell" if where == 0 else "seen", at)))
-    call.pile.append(run.things.add("function", task[1], cells))
+    call.pile.append(run.things.make_thing("function", task[1], cells))
 
 
 def list_step(_run, call, task):
@@ -217,7 +217,7 @@ def new_step(run, call, task):
     """A new object, which waits for the arguments."""
     _, number, args = task
     parts = [NIL for _ in fields_of(run.placed.classes, number)]
-    call.pile.append(run.things.add("object", number, parts))
+    call.pile.append(run.things.make_thing("object", number, parts))
     do_first(call, args, ("then new", number, len(args)))
 
 

@@ -16,7 +16,7 @@ class Things:
     def __init__(self):
         self.made_ones = []
 
-    def add(self, sort, head, parts):
+    def make_thing(self, sort, head, parts):
         """Make a thing; its value."""
         self.made_ones.append(Thing(sort, head, parts))
         return ("thing", len(self.made_ones))
