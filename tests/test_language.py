@@ -233,6 +233,31 @@ class Language(unittest.TestCase):
                             self.assertIn(inner.name.strip("_"), SPECIAL, name)
 
 
+    def test_attributes_and_methods_are_unlike(self):
+        stored, read = set(), set()
+        for _, tree in self.files.values():
+            for node in ast.walk(tree):
+                if isinstance(node, ast.Attribute):
+                    (read if isinstance(node.ctx, ast.Load) else stored).add(node.attr)
+        self.assertEqual(stored & self.own_methods, set())
+        self.assertEqual(read - stored - self.own_methods - set(METHODS), set())
+        self.assertEqual(stored & set("items keys values pop update append clear extend insert remove reverse sort args format".split()), set())
+
+    def test_what_classes_with_eq_bar(self):
+        """Where a class has __eq__, no generator expressions stand in calls, and lists are sorted anew."""
+        for name, (_, tree) in self.files.items():
+            for node in ast.walk(tree):
+                self.assertNotIsInstance(node, (ast.GeneratorExp, ast.Yield, ast.YieldFrom, ast.Lambda), f"{name}")
+                if isinstance(node, ast.Call) and isinstance(node.func, ast.Attribute):
+                    self.assertNotEqual(node.func.attr, "sort", f"{name}:{node.lineno}")
+
+    def test_locals_have_no_name_of_the_files_own(self):
+        for name, (_, tree) in self.files.items():
+            for node in ast.walk(tree):
+                if isinstance(node, ast.FunctionDef):
+                    self.assertEqual(set(local_names(node)) & set(bound(tree)), set(), f"{name}:{node.name}")
+
+
 def reached(edges, begin):
     """All files that files import from, and so on."""
     found = set()
