@@ -84,7 +84,7 @@ def names_anew(scopes):
     number = 0
     for variable in scopes.variables:
         if variable.name == "this":
-            found.append("this")
+            found.append(variable.name)
         else:
             while "v" + str(number) in scopes.top_names:
                 number += 1
