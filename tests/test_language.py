@@ -23,8 +23,23 @@ INTERFACE = {
     "units": "Code Unit is_row takes lays fields method",
     "examine": "refused refutal is_let is_paper is_refutal table stretch",
     "rooms": "Room",
+    "heaps": "Heap",
+    "layouts": "Layout meaning_of is_sound broken",
+    "images": "restored",
+    "machine": "Machine",
+    "told": "told",
+    "optimise": "rules_at ruled optimised saved elder_rows",
+    "codetext": "unit_text read_unit",
+    "revived": "resumed",
 }
-METHODS_LISTED = {("plain", "Plain"): "run ticks is_over lines ends made"}
+METHODS_LISTED = {
+    ("plain", "Plain"): "run ticks is_over lines ends made",
+    ("machine", "Machine"): "run ticks is_over lines ends made meaning counts layout image copy",
+    ("heaps", "Heap"): (
+        "make hold size number read gather turn steps whole filled drop write item meaning sort_of image same sweep"
+        " counts living reached way holders layout"
+    ),
+}
 LIBRARY = {
     "heapq": "heappush heappop heapify heapreplace heappushpop", "math": "gcd lcm isqrt comb perm factorial",
     "itertools": "product combinations permutations chain accumulate pairwise islice zip_longest",

@@ -1,10 +1,11 @@
-"""Moments: what is done at which ticks."""
+"""Moments: what is done at which ticks, and how many ticks are counted."""
 
-from unseenheap.errors import NoMoments
+from unseenheap.errors import NoMoments, NoNumber
 from unseenheap.kinds import is_integer
 
 MOST_TICK = 10 ** 9
 MOST_STEPS = 10 ** 9
+MOST_COUNTED = 10 ** 6
 DEEDS = ("switch", "sweep", "young", "turn", "whole")
 
 
@@ -33,4 +34,15 @@ def is_deed(thing):
     if not isinstance(thing, tuple) or len(thing) != 2:
         return False
     word, many = thing
-    return isinstance(word, str) and word == "steps" and is_integer(many) and 0 <= many <= MOST_STEPS
+    return isinstance(word, str) and word == "steps" and is_many_steps(many)
+
+
+def is_many_steps(thing):
+    """Whether a thing is how many things the collector may be told to look at."""
+    return is_integer(thing) and 0 <= thing <= MOST_STEPS
+
+
+def check_most(most):
+    """Refuse what is no number of ticks up to which a run may go on."""
+    if not is_integer(most) or not 0 <= most <= MOST_COUNTED:
+        raise NoNumber()

@@ -1,14 +1,10 @@
 """The plain meaning of programs: they are run by their trees, over things that never go."""
 
-from unseenheap.errors import NoNumber
-from unseenheap.kinds import is_integer
-from unseenheap.moments import check_moments
+from unseenheap.moments import check_moments, check_most
 from unseenheap.names import scopes_of
 from unseenheap.placing import Placed
 from unseenheap.runs import Run
 from unseenheap.steps import step
-
-MOST_TICKS = 10 ** 6
 
 
 class Plain:
@@ -21,8 +17,7 @@ class Plain:
 
     def run(self, most):
         """Go on until so many ticks are counted in all, or the run is over."""
-        if not is_integer(most) or not 0 <= most <= MOST_TICKS:
-            raise NoNumber()
+        check_most(most)
         while self.inner.counted < most and not self.inner.has_ended():
             step(self.inner)
 

@@ -1,6 +1,6 @@
 """Rooms: how many words a bound heap has."""
 
-from unseenheap.errors import BadRoom
+from unseenheap.errors import BadRoom, NoRoom
 from unseenheap.kinds import is_integer
 
 LEAST_YOUNG = 8
@@ -28,3 +28,9 @@ class Room:
             isinstance(other, Room) and self.young == other.young and self.old == other.old
             and self.pace == other.pace
         )
+
+
+def check_room(thing):
+    """Refuse what is neither a room nor None, which stands for an endless heap."""
+    if thing is not None and not isinstance(thing, Room):
+        raise NoRoom()

@@ -4,7 +4,15 @@ from unseenheap.errors import NoWord
 from unseenheap.kinds import is_integer
 
 TAGS = 8
+THING_TAG = 0
 INTEGER_TAG = 1
+FLAG_TAG = 2
+NIL_TAG = 3
+FAULT_TAG = 4
+THREAD_TAG = 5
+NIL_WORD = 3
+FALSE_WORD = 2
+TRUE_WORD = 10
 LEAST_INTEGER = -2 ** 59
 GREATEST_INTEGER = 2 ** 59 - 1
 # The greatest payload of each tag, None for tags without one: thing, integer, flag, nil, fault, thread.
