@@ -114,3 +114,75 @@ def level_unit(seed):
     rows += [("push", ("nil",)), ("give",)]
     keeping = Code("fun", 0, 0, 1, (("tick",), ("push", ("nil",)), ("give",)), ())
     return Unit((), (), (), (Code("top", 0, 2, 0, tuple(rows), tuple(handlers)), keeping))
+
+
+def loose_rows(chance, many):
+    """Blocks that begin and end with an empty pile, jumps between them, and where handlers may go on."""
+    value = lambda: ("push", chance.choice([("int", 0), ("int", 5), ("int", -3), ("int", 2 ** 59 - 1), ("int", -2 ** 59), ("nil",), ("bool", False), ("bool", True),
+                                            ("fault", "kind")]))
+    blocks = [[("tick",), ("cell", 1)]]
+    for _ in range(many):
+        word = chance.choice(["add", "sub", "mul", "div", "rem", "lt", "le", "eq"])
+        blocks.append(chance.choice([
+            lambda: [value(), value(), (word,), chance.choice([("pop",), ("say",)])],
+            lambda: [value(), (chance.choice(["neg", "not"]),), ("say",)],
+            lambda: [value(), value(), value(), (word,), ("list", 2), ("pop",)],
+            lambda: [value(), ("store", 0), ("load", 0), ("say",)],
+            lambda: [value(), ("poke", 1), ("peek", 1), ("pop",)],
+            lambda: [value(), ("keep", 0), ("name", 0), ("say",)],
+            lambda: [value(), ("store", 0), ("load", 2), ("pop",)],
+            lambda: [chance.choice([value(), ("text", 0), ("load", 0), ("peek", 1), ("name", 0)]), ("dup",), ("pop",), ("pop",)],
+            lambda: [("jump", None)],
+            lambda: [("jump", None)],
+            lambda: [("load", 0), ("skip", None)],
+            lambda: [value(), ("skip", None)],
+            lambda: [value(), ("jump", "give")],
+            lambda: [value(), ("skip", None), value(), ("give",)],
+            lambda: [value(), ("give",)],
+            lambda: [("tick",), ("load", 0), ("skip", None)],
+            lambda: [("land",), ("pop",)],
+            lambda: [("land",), ("pop",)],
+            lambda: [("throw_", ), ],
+        ])())
+    rows, begins, gives, lands = [], [], [], []
+    for number, block in enumerate(blocks):
+        if block == [("throw_",)]:
+            block = blocks[number] = [value(), ("throw",)]
+        begins.append(len(rows))
+        for row in block:
+            if row == ("give",):
+                gives.append(len(rows))
+            if row == ("land",):
+                lands.append(len(rows) + 1)
+                row = ("jump", len(rows) + 2)
+            rows.append(row)
+    begins.append(len(rows))
+    gives.append(len(rows) + 1)
+    rows += [("push", ("nil",)), ("give",)]
+    ticks = [at for at in begins if rows[at] == ("tick",)]
+    for at, row in enumerate(rows):
+        if row == ("jump", "give"):
+            rows[at] = ("jump", chance.choice([give for give in gives if give > at]))
+        elif len(row) == 2 and row[1] is None:
+            aims = [begin for begin in begins if begin > at]
+            near = [begin for begin in aims if rows[begin][0] in ("jump", "tick")] or aims
+            back = [tick for tick in ticks if tick <= at]
+            rows[at] = (row[0], chance.choice(chance.choice([aims, near, back or aims])))
+    return rows, lands
+
+
+def loose_unit(seed):
+    """A unit of one code with much that the optimiser can do, which is let by."""
+    chance = random.Random(seed)
+    rows, lands = loose_rows(chance, chance.randrange(2, 25))
+    handlers = []
+    for land in lands:
+        for _ in range(chance.choice([0, 1, 1, 2])):
+            begin = chance.randrange(land)
+            handlers.append((begin, chance.randrange(begin + 1, land + 1), land, 0))
+    if chance.random() < 0.2:
+        handlers.append((len(rows) + 2, len(rows) + 5, chance.randrange(len(rows) + 3), 0))
+    if chance.random() < 0.2 and lands:
+        handlers.append((len(rows) - 1, len(rows) + chance.randrange(1, 3), lands[-1], 9))
+    chance.shuffle(handlers)
+    return Unit(("ab",), (("a", None),), (), (Code("top", 0, 3, 0, tuple(rows), tuple(handlers)),))

@@ -381,3 +381,55 @@ class MachineModel:
     def told(self):
         ends = [(t.state[0], self.line(t.state[1])) if t.state[0] in ("gave", "threw") else None for t in self.threads]
         return (self.count, self.is_over(), list(self.out), ends, len(self.things))
+
+    def meaning(self):
+        """What [10.3] tells of a machine."""
+        found, waiting = {}, self.roots()
+        while waiting:
+            value = waiting.pop()
+            if value[0] == "thing" and value[1] not in found:
+                sort, parts = self.things[value[1] - 1]
+                if sort == "text":
+                    found[value[1]] = (sort, parts)
+                else:
+                    waiting += parts
+                    head = parts[0][1:] + tuple(parts[1:]) if sort in ("object", "function") else tuple(parts)
+                    found[value[1]] = (sort, head)
+        threads = tuple(
+            (thread.state, tuple((f.number, f.row, tuple(f.slots), f.function, tuple(f.pile)) for f in thread.frames))
+            for thread in self.threads
+        )
+        things = tuple((number, *found[number]) for number in sorted(found))
+        return (self.count, tuple(self.out), tuple(self.tops), threads, tuple(self.queue), things)
+
+    def image(self):
+        """What [13.2] tells of a machine's image, written from its meaning."""
+        ticks, out, tops, threads, queue, things = self.meaning()
+        lines = [["ticks", ticks]] + [["said", *map(ord, line)] for line in out]
+        lines += [["tops", *map(written, tops)], ["queue", *queue]]
+        for state, frames in threads:
+            lines.append([state[0], written(state[1])] if state[0] in ("gave", "threw") else [*state])
+            for code, row, slots, function, pile in frames:
+                lines += [["frame", code, row], ["slots", *map(written, slots)], ["calls", written(function)], ["pile", *map(written, pile)]]
+        lines.append(["last", len(self.things)])
+        for number, sort, parts in things:
+            if sort == "text":
+                inner = [f"w{8 * ord(sign) + 1}" for sign in parts]
+            elif sort in ("object", "function"):
+                inner = [f"w{8 * parts[0] + 1}", *map(written, parts[1:])]
+            else:
+                inner = map(written, parts)
+            lines.append(["thing", number, sort, *inner])
+        return "".join(" ".join(map(str, line)) + "\n" for line in lines)
+
+
+FAULTS = "kind index zero overflow field method count deep stuck".split()
+
+
+def written(value):
+    """A told value as images write it."""
+    if value[0] == "thing":
+        return f"t{value[1]}"
+    tags = {"int": 1, "bool": 2, "nil": 3, "fault": 4, "thread": 5}
+    payload = {"nil": lambda: 0, "fault": lambda: FAULTS.index(value[1])}.get(value[0], lambda: int(value[1]))()
+    return f"w{8 * payload + tags[value[0]]}"

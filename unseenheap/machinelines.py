@@ -8,8 +8,8 @@ from unseenheap.words import NIL_WORD, TAGS, THREAD_TAG
 WAITING_OR_READY = ("ready", "waits")
 STATES = ("ready", "waits", "gave", "threw")
 CALLING = ("call", "send", "up")
-# The words with which the lines begin that tell whether another frame is behind.
-TELLING = ("frame", "ready", "waits", "gave", "threw", "last")
+# The words with which the lines of a frame begin.
+FRAME_LINES = ("frame", "slots", "calls", "pile")
 
 
 class FrameRead:
@@ -113,14 +113,15 @@ class MachineLines:
         self.rest.refuse_unless(len(told) == 2)
         code, row = self.rest.number(told[0]), self.rest.number(told[1])
         self.rest.refuse_unless(self.is_code_there(code, is_first) and self.is_row_there(code, row))
-        is_last = self.is_frame_last()
-        self.rest.refuse_unless(self.may_be_next(thread, code, row, is_last))
+        may_be_ahead = self.may_be_ahead(code, row)
+        may_be_last = self.may_be_last(thread, code, row)
+        self.rest.refuse_unless(may_be_ahead or may_be_last)
         self.rest.leave()
         frame = FrameRead(code, row)
         depth, sorts = self.tables[code][row]
         frame.slot_worths = self.read_slots(sorts)
         frame.called_worth = self.read_called(code)
-        frame.pile_worths = self.read_pile(thread, depth, is_last)
+        frame.pile_worths = self.read_pile(thread, depth if may_be_last else None, depth - 1 if may_be_ahead else None)
         return frame
 
     def is_code_there(self, code, is_first):
@@ -133,19 +134,23 @@ class MachineLines:
         """Whether a code has a row to which a way comes."""
         return row < len(self.tables[code]) and self.tables[code][row] is not None
 
-    def is_frame_last(self):
-        """Whether no other frame of its thread stands behind the next line."""
-        at = self.rest.at + 1
-        while at < len(self.rest.found) and self.rest.first_word(at) not in TELLING:
-            at += 1
-        return self.rest.first_word(at) != "frame"
+    def word_behind(self):
+        """The first word behind the next four lines, "" if these are no lines of a frame."""
+        if not all([self.rest.first_word(self.rest.at + k) == word for k, word in enumerate(FRAME_LINES)]):
+            return ""
+        return self.rest.first_word(self.rest.at + len(FRAME_LINES))
 
-    def may_be_next(self, thread, code, row, is_last):
-        """Whether a row may be the next one of a frame."""
-        rows = self.unit.codes[code].rows
-        if not is_last:
-            return row > 0 and rows[row - 1][0] in CALLING
-        return thread.state == "ready" or rows[row][0] == "join"
+    def may_be_ahead(self, code, row):
+        """Whether the next frame may stand ahead of its thread's last one; where lines lack, this can't be told."""
+        if self.word_behind() in STATES or self.word_behind() == "last":
+            return False
+        return row > 0 and self.unit.codes[code].rows[row - 1][0] in CALLING
+
+    def may_be_last(self, thread, code, row):
+        """Whether the next frame may be its thread's last one; where lines lack, this can't be told."""
+        if self.word_behind() == "frame":
+            return False
+        return thread.state == "ready" or self.unit.codes[code].rows[row][0] == "join"
 
     def read_slots(self, sorts):
         """What the slots have, for which their sorts are told."""
@@ -168,12 +173,12 @@ class MachineLines:
         self.claim("calls", self.rest.leave(), (found, code))
         return found
 
-    def read_pile(self, thread, depth, is_last):
-        """The pile; what a call gives is not laid yet."""
+    def read_pile(self, thread, depth, depth_ahead):
+        """The pile, which has a depth if its frame may be the last one, or another one if it may be ahead of this."""
         told = self.rest.told_behind("pile")
-        self.rest.refuse_unless(len(told) == (depth if is_last else depth - 1))
+        self.rest.refuse_unless(len(told) == depth or len(told) == depth_ahead)
         found = self.rest.worths(told)
-        if is_last and thread.state == "waits":
+        if len(told) == depth and thread.state == "waits":
             self.rest.refuse_unless(found[-1] == ("word", thread.awaited_one * TAGS + THREAD_TAG))
         self.claim("worths", self.rest.leave(), [(worth, "value") for worth in found])
         return found
