@@ -19,7 +19,7 @@ class Bound(Laid):
     """A bound heap; its owner tells the lists of words from which things can be come to."""
 
     def __init__(self, room, owner):
-        Laid.__init__(self, [0 for _ in range(room.young + 2 * room.old)])
+        Laid.__init__(self, [0] * (room.young + 2 * room.old))
         self.room = room
         self.owner = owner
         self.use = 0
@@ -239,7 +239,7 @@ class Bound(Laid):
 
     def told_words(self):
         """All words, with 0 where nothing lies."""
-        found = [0 for _ in self.words]
+        found = [0] * len(self.words)
         other = self.begin_of(1 - self.use)
         begin = self.begin_of(self.use)
         for low, high in ((0, self.top), (begin, self.free), (other, other + self.left)):
