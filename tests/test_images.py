@@ -232,6 +232,8 @@ class Wrong(unittest.TestCase):
         self.assertEqual(line_of("last 3\nthing 1 list\nthing 3 list w0\n"), 3)
         self.assertEqual(line_of("last 3\nhold 0 t9\nthing 1 list"), 3)
         self.assertEqual(line_of("last 3\nhold 0 t9\nthing 4 list\n"), 3)
+        for word in ("t01", "t", "t-1", "tx", "w03", "w", "x", "t" + "1" * 26):
+            self.assertEqual(line_of(f"last 3\nhold 0 t9\nhold 1 {word}\n"), 3)
 
     def test_a_bad_image_ahead_of_a_full_heap(self):
         text = "last 1\nhold 0 t1\nthing 1 list w3 w3 w3 w3 w3 w3 w3\n"

@@ -248,6 +248,31 @@ class Sentences(unittest.TestCase):
         self.check(None, layout)
         self.check(3, changed(layout, {8: 8 * 60001 + LIST, 60010: 3}, free=60011, scan=60011))
 
+    def test_empty_texts(self):
+        layout = changed(still(), {29: TEXT, 30: 8}, free=31, scan=31)
+        self.check(None, layout)
+        self.check(None, changed(layout, {7: TEXT, 8: 9}, top=9))
+        self.check(None, changed(turning(), {26: TEXT, 27: 8}, left=16))
+        self.check(3, changed(layout, {30: 0}))
+
+    def test_things_that_begin_with_the_last_word(self):
+        blank = Layout(ROOM, (0,) * 92, 1, 92, 92, 0, 0, 0, (), (), 3)
+        good = changed(blank, {52: 8 * 38 + LIST, 53: 1, **{place: 3 for place in range(54, 92)}})
+        self.check(None, good)
+        for head in (LIST, TEXT, 8 + LIST, -1, -53):
+            self.check(3, changed(good, {52: 8 * 37 + LIST, 91: head}))
+        # The second half is left: its last word is the head of one that was copied, or of one that was not.
+        left = Layout(ROOM, (0,) * 92, 0, 14, 12, 0, 40, 0, (), (), 3)
+        left = changed(left, {12: LIST, 13: 2, 52: 8 * 37 + LIST, 53: 1, **{place: 3 for place in range(54, 91)}})
+        for head in (LIST, TEXT, 8 + LIST, -13, -1):
+            self.check(4, changed(left, {91: head}))
+            self.check(4, changed(left, {91: head}, copied=2))
+
+    def test_one_word_that_is_left(self):
+        self.check(4, changed(turning(), left=1, copied=0))
+        self.check(4, changed(turning(), left=1, copied=1))
+        self.check(2, changed(turning(), left=1, copied=2))
+
     def test_where_scan_is(self):
         layout = turning()
         for scan in (53, 54, 57, 58, 60, 61):

@@ -1,7 +1,7 @@
 """Audits of layouts: eight sentences, each of which is asked only if all ahead of it hold."""
 
 from unseenheap.kinds import is_integer
-from unseenheap.laying import AHEAD, MOST_WORDS, SORTS, Laid, is_things, may_be_many, may_stand
+from unseenheap.laying import AHEAD, SORTS, Laid, is_things, may_be_many, may_stand
 from unseenheap.rooms import Room
 from unseenheap.words import TAGS, is_word
 
@@ -31,9 +31,9 @@ class Audit:
         self.numbers = {}
         self.young_ones = []
         self.used_ones = []
+        # Those that were not copied.
         self.left_ones = []
-        self.copied_ones = []
-        # Where things begin, each with the number of the thing.
+        # Where things begin, in whatever part.
         self.begins = {}
 
     def first_broken(self):
@@ -105,12 +105,12 @@ class Audit:
             return False
         head, number = self.told.words[at:at + AHEAD]
         sort, many = head & (TAGS - 1), head // TAGS
-        if sort >= len(SORTS) or many > MOST_WORDS or at + AHEAD + many > end:
+        if sort >= len(SORTS) or not may_be_many(SORTS[sort], many) or at + AHEAD + many > end:
             return False
-        if not may_be_many(SORTS[sort], many) or not 1 <= number <= self.told.last or number in self.numbers:
+        if not 1 <= number <= self.told.last or number in self.numbers:
             return False
         self.numbers[number] = True
-        self.begins[at] = number
+        self.begins[at] = True
         return True
 
     def has_left_things(self):
@@ -134,8 +134,7 @@ class Audit:
                 many = AHEAD + self.told.words[new] // TAGS
                 if at + many > end:
                     return False
-                self.copied_ones.append(at)
-                self.begins[at] = self.told.words[new + 1]
+                self.begins[at] = True
                 copied += many
                 at += many
         return copied == self.told.copied

@@ -4,7 +4,7 @@ from unseenheap.errors import NoHandle, NoItems, NoNumber, NoPlace, NoSort, NoTh
 from unseenheap.following import come_to, holders_from, meaning_from, room_of, way_from
 from unseenheap.imaging import heap_image
 from unseenheap.kinds import is_integer
-from unseenheap.laying import AHEAD, MOST_WORDS, SORTS, is_things, may_be, may_stand
+from unseenheap.laying import AHEAD, SORTS, is_things, may_be, may_stand
 from unseenheap.moments import is_many_steps
 from unseenheap.rooms import check_room
 from unseenheap.stores import layout_with, store_for
@@ -72,7 +72,7 @@ class Heap:
         """Make a thing; a new handle of it."""
         if not isinstance(sort, str) or sort not in SORTS:
             raise NoSort()
-        if not isinstance(items, tuple) or len(items) > MOST_WORDS or not all([self.is_item(item) for item in items]):
+        if not isinstance(items, tuple) or not all([self.is_item(item) for item in items]):
             raise NoItems()
         if not may_be(sort, [self.word_of_item(item) for item in items]):
             raise NoItems()
