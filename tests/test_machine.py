@@ -165,6 +165,19 @@ class Told(unittest.TestCase):
         found.run(99)
         self.assertEqual(found.layout()[1], (2, 3, 1, 1))
 
+    def test_a_copy_has_the_moments_that_are_to_come(self):
+        text = "var t = weak([1]); yield(); yield(); yield(); say worth(t); spawn(fun() { say 2; }); yield(); say 1;"
+        for room in (None, Room(8, 60, 1)):
+            for ticks in range(7):
+                found = machine(text, room, ((1, "sweep"), (3, "young"), (4, "sweep"), (5, "switch")), ticks)
+                other = found.copy()
+                other.run(99)
+                self.assertEqual(other.lines(), ["nil", "2", "1"], ticks)
+        found = machine(text, Room(8, 60, 1), ((1, "turn"), (2, "young"), (4, "whole")), 3)
+        other = found.copy()
+        other.run(99)
+        self.assertEqual(other.counts()[3], 1)
+
     def test_copy(self):
         found = machine("var l = [0]; while l[0] < 9 { l[0] = l[0] + 1; say l[0]; }", Room(8, 60, 1), ((3, "turn"),), 3)
         other = found.copy()

@@ -4,11 +4,13 @@ import unittest
 
 from tests.machine_model import MachineModel
 from tests.machine_runs import drawn_deeds, machines_for, outcome_unit, unit_of_rows, with_ticks
+from tests.told import told
 from unseenheap.compiling import compiled
 from unseenheap.examine import refused
 from unseenheap.machine import Machine
 from unseenheap.reading import read
 from unseenheap.rooms import Room
+from unseenheap.units import Code, Unit
 
 GREATEST = 2 ** 59 - 1
 LEAST = -2 ** 59
@@ -63,8 +65,13 @@ class Rows(unittest.TestCase):
         return self.ran(outcome_unit(*rows))
 
     def gives(self, line, *rows):
-        """What rows lay at last."""
+        """What rows lay at last; what lies beneath is let be."""
         self.assertEqual(self.said(*rows), [line], rows)
+        both = (num(77), num(78), *rows, ("list", 3), ("dup",), num(0), ("at",), ("say",), ("dup",), num(1), ("at",), ("say",), num(2), ("at",))
+        for room in (None, Room(8, 300, 1)):
+            machine = Machine(outcome_unit(*both), room, ())
+            machine.run(99)
+            self.assertEqual(machine.lines(), ["77", "78", line], rows)
 
     def throws(self, fault, *rows):
         """Rows throw a fault."""
@@ -328,6 +335,20 @@ class Rows(unittest.TestCase):
         self.assertEqual((machine.lines(), machine.ends()), (["list 1", "list 1", "list 1"], [("threw", "list 1")]))
         self.assertEqual(self.ran(compiled(read(text))), machine.lines())
 
+    def test_handlers_that_begin_or_end_at_a_call(self):
+        """The row that counts for a frame ahead of the last one is its call, not the one that is next."""
+        thrower = Code("f", 0, 0, 0, (("tick",), num(9), ("throw",)), ())
+        method = Code("A.m", 1, 1, 0, (("tick",), num(9), ("throw",)), ())
+        for rows in ((("name", 1), ("call", 0)), (("new", 0), ("send", "m", 0)), (("new", 1), ("up", 1, "m", 0))):
+            inner = (*rows, ("say",), ("jump", 6), ("say",), ("tick",))
+            for begin, end, is_caught in ((2, 3, True), (1, 3, True), (2, 4, True), (1, 2, False), (3, 4, False), (3, 5, False)):
+                unit = Unit((), (("a", None), ("f", 1)), (("A", None, (), (("m", 2),)), ("B", 0, (), ())), (
+                    Code("top", 0, 0, 0, (("tick",), *inner, NIL, ("give",)), ((begin, end, 5, 0),)), thrower, method))
+                machine = Machine(unit, None, ())
+                machine.run(99)
+                self.assertEqual((machine.lines(), machine.ends()), (["9"], [("gave", "nil")]) if is_caught else ([], [("threw", "9")]))
+                self.assertEqual(self.ran(unit), machine.lines())
+
     def test_calls_200_deep(self):
         text = "fun f(n) { if n == 0 { return 0; } return f(n - 1) + 1; } say f(198); try { f(199); } catch e { say e; }"
         for room in (None, Room(8, 50, 1)):
@@ -338,24 +359,32 @@ class Rows(unittest.TestCase):
             self.assertEqual((machine.lines(), machine.is_over()), (["198", "fault deep"], True))
 
     def test_what_a_row_takes_lives_while_it_makes_a_thing(self):
-        """Rooms that just hold what is taken and what is made."""
-        for rows, old in (
-            ((num(1), num(2), num(3), ("list", 3), ("dup",), ("add",)), 5 + 8),
-            ((num(1), ("list", 1), ("list", 1), ("list", 1)), 3 + 3 + 3),
-            ((num(1), num(2), num(3), ("list", 3), ("weak",)), 5 + 3),
-            ((("list", 0), ("list", 0), ("list", 0), ("list", 3)), 2 * 3 + 5),
-            ((("new", 1), ("new", 1), ("list", 2)), 6 + 6 + 4),
-            ((num(1), ("list", 1), ("store", 0), ("cell", 0), ("cell", 1), ("fun", 2, ((0, 0), (0, 1)))), 3 + 3 + 3 + 5),
+        """Rooms that just hold what is taken and what is made, and such with one word less."""
+        for rows, old, last in (
+            ((num(1), num(2), num(3), ("list", 3), ("dup",), ("add",)), 5 + 8, 8),
+            ((num(1), ("list", 1), ("list", 1), ("list", 1)), 3 + 3 + 3, 3),
+            ((*[num(1)] * 4, ("list", 4), ("weak",)), 6 + 3, 3),
+            ((("list", 0), ("list", 0), ("list", 0), ("list", 3)), 2 * 3 + 5, 5),
+            ((("new", 1), ("new", 1), ("list", 2)), 6 + 6 + 4, 4),
+            ((("list", 0), ("list", 0), ("new", 1)), 2 + 2 + 6, 6),
+            ((("list", 0), ("store", 0), ("list", 0), ("store", 1), ("list", 0), ("cell", 0)), 2 + 2 + 2 + 3, 3),
+            ((num(1), ("list", 1), ("store", 0), ("cell", 0), ("cell", 1), ("fun", 2, ((0, 0), (0, 1)))), 3 + 3 + 3 + 5, 5),
+            ((*[num(1)] * 4, ("list", 4), ("fun", 1, ())), 6 + 3, 3),
         ):
             unit = unit_of_rows(*rows, ("store", 2), texts=(), tops=())
             for room in (Room(8, old, 1), Room(old, old, 0)):
                 machine = Machine(unit, room, ())
                 machine.run(9)
-                self.assertIs(machine.is_over(), True)
                 self.assertEqual(machine.ends(), [("gave", "nil")])
-            if old > 8:
-                machine = Machine(unit, Room(8, old - 1, 1), ())
-                self.assertRaises(ValueError, machine.run, 9)
+            machine = Machine(unit, Room(8, old - 1, 1), ())
+            self.assertEqual(told(machine.run, 9), ("HeapFull", last), rows)
+        for text, old in (("abcdef", 8 + 3), ("abcdefghij", 12 + 3)):
+            unit = unit_of_rows(("text", 0), num(2), ("at",), ("say",), texts=(text,), tops=())
+            machine = Machine(unit, Room(8, old, 1), ((1, "turn"),))
+            machine.run(9)
+            self.assertEqual(machine.lines(), ["c"])
+            machine = Machine(unit, Room(8, old - 1, 1), ())
+            self.assertEqual(told(machine.run, 9), ("HeapFull", 3))
 
     def test_a_text_of_one_sign(self):
         unit = unit_of_rows(("text", 0), num(0), ("at",), ("say",), texts=("xyz",), tops=())

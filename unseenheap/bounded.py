@@ -106,23 +106,26 @@ class Bound(Laid):
         self.free += many
         return new
 
-    def lead_on(self, row, places, low, high):
-        """Lead on the words at places of a list that lead to places from low to ahead of high."""
+    def lead_on(self, places, low, high):
+        """Lead on the words at places that lead to places from low to ahead of high."""
         for place in places:
-            word = row[place]
+            word = self.words[place]
             if word & (TAGS - 1) == THING_TAG and low <= word // TAGS < high:
-                row[place] = self.moved(word // TAGS) * TAGS + THING_TAG
+                self.words[place] = self.moved(word // TAGS) * TAGS + THING_TAG
 
     def lead_roots(self, low, high):
         """Lead on the words from which things can be come to."""
         for row in self.owner.root_rows():
-            self.lead_on(row, list(range(len(row))), low, high)
+            for place in range(len(row)):
+                word = row[place]
+                if word & (TAGS - 1) == THING_TAG and low <= word // TAGS < high:
+                    row[place] = self.moved(word // TAGS) * TAGS + THING_TAG
 
     def lead_left(self, begin, end):
         """Lead on the words at some places that lead to the half that is being left; how much is copied is kept."""
         ahead = self.free
         low = self.begin_of(1 - self.use)
-        self.lead_on(self.words, list(range(begin, end)), low, low + self.room.old)
+        self.lead_on(list(range(begin, end)), low, low + self.room.old)
         self.copied += self.free - ahead
 
     def end_of(self, at):
@@ -134,11 +137,11 @@ class Bound(Laid):
         self.tally[GATHERS] += 1
         at = self.free
         self.lead_roots(0, self.room.young)
-        self.lead_on(self.words, list(self.remembered), 0, self.room.young)
+        self.lead_on(list(self.remembered), 0, self.room.young)
         many = 0
         while at < self.free:
             if self.words[at] & (TAGS - 1) != TEXT_SORT:
-                self.lead_on(self.words, list(range(at + AHEAD, self.end_of(at))), 0, self.room.young)
+                self.lead_on(list(range(at + AHEAD, self.end_of(at))), 0, self.room.young)
             at = self.end_of(at)
             many += 1
         self.empty_nursery()
@@ -211,7 +214,7 @@ class Bound(Laid):
             sort = self.words[at] & (TAGS - 1)
             # Each word is looked at once, so all that lead to things still lead to what is being left.
             if sort != TEXT_SORT and (is_tie_followed or sort != TIE_SORT):
-                self.lead_on(self.words, list(range(at + AHEAD, self.end_of(at))), 0, len(self.words))
+                self.lead_on(list(range(at + AHEAD, self.end_of(at))), 0, len(self.words))
             at = self.end_of(at)
         self.empty_nursery()
         return begin
