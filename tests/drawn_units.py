@@ -186,3 +186,52 @@ def loose_unit(seed):
         handlers.append((len(rows) - 1, len(rows) + chance.randrange(1, 3), lands[-1], 9))
     chance.shuffle(handlers)
     return Unit(("ab",), (("a", None),), (), (Code("top", 0, 3, 0, tuple(rows), tuple(handlers)),))
+
+
+# How many values rows take and lay, as far as tangled_unit draws them.
+TAKEN = {"pop": 1, "store": 1, "keep": 1, "poke": 1, "say": 1, "not": 1, "neg": 1, "add": 2, "eq": 2, "lt": 2, "dup": 1, "skip": 1, "give": 1, "throw": 1}
+LAID = {"push": 1, "load": 1, "name": 1, "peek": 1, "text": 1, "not": 1, "neg": 1, "add": 1, "eq": 1, "lt": 1, "dup": 2}
+
+
+def tangled_unit(seed):
+    """A unit of one code that is let by: rows at any depth, jumps and skips to any row of the same depth, handlers."""
+    chance = random.Random(seed)
+    words = ["push"] * 6 + ["load", "name", "peek", "text", "pop", "pop", "store", "store", "keep", "poke", "say", "not", "neg", "add", "eq", "lt", "dup", "skip",
+                            "skip", "jump", "jump", "jump", "give", "throw", "tick"]
+    values = [("int", 0), ("int", 2), ("int", 2 ** 59 - 1), ("nil",), ("bool", False), ("bool", True)]
+    rows, depths, depth = [("tick",), ("cell", 1)], [0, 0], 0
+    for _ in range(chance.randrange(3, 30)):
+        word = chance.choice(words)
+        if rows[-1][0] in ("store", "keep", "poke") and chance.random() < 0.4:
+            word = {"store": "load", "keep": "name", "poke": "peek"}[rows[-1][0]]
+        if TAKEN.get(word, 0) > depth or depth > 4 and word in LAID and word not in TAKEN:
+            continue
+        depths.append(depth)
+        depth += LAID.get(word, 0) - TAKEN.get(word, 0)
+        rows.append(("push", chance.choice(values)) if word == "push" else (word, 1) if word in ("peek", "poke") else
+                    (word, 0) if word in ("load", "store", "name", "keep", "text", "jump", "skip") else (word,))
+    depths.append(depth)
+    rows.append(("push", ("nil",)))
+    depths.append(depth + 1)
+    rows.append(("give",))
+    for at, row in enumerate(rows):
+        if row[0] in ("jump", "skip"):
+            wanted = depths[at] - (row[0] == "skip")
+            aims = [to for to in range(len(rows)) if depths[to] == wanted and (to > at or rows[to] == ("tick",))]
+            near = [to for to in aims if rows[to][0] in ("jump", "give") or at < to < at + 4]
+            if not aims:
+                rows[at] = ("push", ("nil",)) if row[0] == "jump" else ("pop",)
+                if row[0] == "jump":
+                    return tangled_unit(seed + 10 ** 6)
+            else:
+                rows[at] = (row[0], chance.choice(near if near and chance.random() < 0.6 else aims))
+    handlers = []
+    for _ in range(chance.choice([0, 0, 1, 2, 3])):
+        begin = chance.randrange(len(rows) - 1)
+        end = begin + chance.choice([1, 1, 2, 3, 5, 9])
+        least = min(depths[at] - TAKEN.get(rows[at][0], 0) for at in range(begin, min(end, len(rows))))
+        lands = [at for at in range(end, len(rows)) if 1 <= depths[at] <= least + 1]
+        if lands:
+            at = chance.choice(lands)
+            handlers.append((begin, end, at, depths[at] - 1))
+    return Unit(("ab",), (("a", None),), (), (Code("top", 0, 2, 0, tuple(rows), tuple(handlers)),))

@@ -4,7 +4,7 @@ import random
 import unittest
 
 from tests.drawn_programs import drawn, drawn_moments
-from tests.drawn_units import drawn_unit, level_unit, loose_unit
+from tests.drawn_units import drawn_unit, level_unit, loose_unit, tangled_unit
 from tests.machine_runs import unit_of_rows
 from tests.optimise_model import all_used, exchanged, with_code
 from tests.told import NO_STRINGS, nested, nested_dict, nested_list, told
@@ -335,13 +335,13 @@ class All(unittest.TestCase):
     def test_drawn_units(self):
         seen = set()
         many = 0
-        for seed in range(180):
-            for unit in (drawn_unit(seed), level_unit(seed), loose_unit(seed)):
+        for seed in range(150):
+            for unit in (drawn_unit(seed), level_unit(seed), loose_unit(seed), *[tangled_unit(10 * seed + at) for at in range(8)]):
                 if is_let(unit):
                     seen |= self.check(unit, seed)
                     many += 1
         self.assertEqual(seen, set(RULES))
-        self.assertGreater(many, 200)
+        self.assertGreater(many, 1000)
 
     def test_compiled_programs(self):
         for seed in range(25):
@@ -386,7 +386,7 @@ class Machines(unittest.TestCase):
         return (ticks, lines, tops, tuple(told_threads), queue, things)
 
     def test_machines_of_both_mean_the_same(self):
-        units = [(seed, compiled(drawn(seed))) for seed in range(60)] + [(seed, loose_unit(seed)) for seed in range(200)] + [(seed, drawn_unit(seed)) for seed in range(400)]
+        units = [(seed, compiled(drawn(seed))) for seed in range(60)] + [(seed, loose_unit(seed)) for seed in range(200)] + [(seed, drawn_unit(seed)) for seed in range(300)] + [(seed, tangled_unit(seed)) for seed in range(300)]
         many = 0
         for seed, unit in units:
             if not is_let(unit):

@@ -25,7 +25,8 @@ TEXT = (
     'var o = new A("s" + "t"); say "s"; say "";\n'
     'var over = spawn(fun() { return [o]; });\n'
     'var thrown = spawn(fun() { throw nil; });\n'
-    'var waits = spawn(fun() { join(spawn(fun() { while true { yield(); } })); });\n'
+    'fun wait() { return [join(spawn(fun() { while true { yield(); } }))]; }\n'
+    'var waits = spawn(fun() { return [1, wait()]; });\n'
     'var deep = spawn(fun() { var h = o.m([1, f(5)]); });\n'
     'while true { yield(); }\n'
 )
@@ -213,7 +214,7 @@ class Lines(unittest.TestCase):
     def setUp(self):
         self.unit = unit_of(TEXT)
         machine = Machine(self.unit, None, MOMENTS)
-        machine.run(24)
+        machine.run(19)
         self.image = machine.image()
         self.lines = self.image.split("\n")[:-1]
 
@@ -241,7 +242,7 @@ class Lines(unittest.TestCase):
         for word in ("ready", "waits", "gave", "threw"):
             self.assertIn(word, states)
         self.assertIn("queue", states)
-        self.assertEqual([len(line.split(" ")) for line in self.lines if line.startswith("tops")], [7])
+        self.assertEqual([len(line.split(" ")) for line in self.lines if line.startswith("tops")], [8])
 
     def test_ticks(self):
         self.refuse(1, "", "ticks", "ticks ", "ticks -1", "ticks 01", "ticks x", "ticks 1 1", " ticks 1", "Ticks 1", "tick 1", "ticks  1", "ticks " + "1" * 26, "said 65", "last 1")
@@ -259,9 +260,9 @@ class Lines(unittest.TestCase):
     def test_tops(self):
         at = self.at("tops")
         words = self.lines[at - 1].split(" ")
-        self.refuse(at, "tops", " ".join(words[:-1]), " ".join([*words, "w3"]), "tops w3 w3 w3 w3 w3 w", "tops w3 w3 w3 w3 w3 3", "tops w3 w3 w3 w3 w3 w0", "tops w3 w3 w3 w3 w3 w6",
-                    "tops w3 w3 w3 w3 w3 w8", "tops w3 w3 w3 w3 w3  w3", "tops w3 w3 w3 w3 w3 w3 ", "tops w3 w3 w3 w3 w3 w03", "tops w3 w3 w3 w3 w3 t-1", "top w3 w3 w3 w3 w3 w3",
-                    "tops w3 w3 w3 w3 w3 w76")
+        nils = "tops w3 w3 w3 w3 w3 w3"
+        self.refuse(at, "tops", " ".join(words[:-1]), " ".join([*words, "w3"]), *[f"{nils} {word}" for word in ("w", "3", "w0", "w6", "w8", " w3", "w3 ", "w03", "t-1", "w76", "")],
+                    nils, nils + " w3 w3", nils.replace("tops", "top") + " w3")
         # Things that are not there, threads that are not there, a cell.
         cell = self.lines[self.at("thing", 0) - 1:]
         cell = [line.split(" ")[1] for line in cell if line.split(" ")[2] == "cell"][0]
@@ -310,23 +311,24 @@ class Lines(unittest.TestCase):
         self.assertEqual(self.line_of("\n".join(lines) + "\n"), first)
 
     def test_one_frame_at_least(self):
-        for word in ("ready", "waits"):
+        for word, many in (("ready", 1), ("waits", 2)):
             at = self.at(word)
-            lines = [*self.lines[:at], *self.lines[at + 4:]]
-            found = self.line_of("\n".join(lines) + "\n")
-            self.assertEqual(found, at + 1)
+            lines = [*self.lines[:at], *self.lines[at + 4 * many:]]
+            self.assertFalse(lines[at].startswith("frame"))
+            self.assertEqual(self.line_of("\n".join(lines) + "\n"), at + 1)
 
     def test_codes_of_frames(self):
         at = self.at("frame 0")
         self.refuse(at, "frame", "frame 0", "frame 0 1 1", "frame x 1", "frame 0 x", "frame -1 0", "frame 00 1", "frame 0 -1", "frame 99 0", "frame  0 1", "frame 0 1 ", "frames 0 1")
         # The first frame of thread 0, and no other one, is of code 0.
-        for code in range(1, 9):
-            self.refuse(at, f"frame {code} 1")
+        for code in range(1, len(self.unit.codes) + 2):
+            self.refuse(at, f"frame {code} 1", f"frame {code} 0")
         for other in [number for number, line in enumerate(self.lines, start=1) if line.startswith("frame") and number != at]:
             self.refuse(other, "frame 0 1")
         # The first frames of other threads are of codes without parameters.
-        firsts = [number + 1 for number, line in enumerate(self.lines, start=1) if line in ("ready",) or line.startswith("waits")][1:]
+        firsts = [number + 1 for number, line in enumerate(self.lines, start=1) if line == "ready" or line.startswith("waits")][1:]
         for first in firsts:
+            self.refuse(first, f"frame {len(self.unit.codes)} 0", f"frame {len(self.unit.codes)} 1")
             for code, made in enumerate(self.unit.codes):
                 if made.params:
                     self.refuse(first, f"frame {code} 1")
@@ -350,8 +352,23 @@ class Lines(unittest.TestCase):
                 if other == 0 or self.unit.codes[code].rows[other - 1][0] not in ("call", "send", "up"):
                     self.refuse(at, f"frame {code} {other}")
 
+    def test_a_frame_ahead_that_is_made_the_last_one(self):
+        """What a call gives lacks on the pile then; in a waiting thread it doesn't stand at a join."""
+        ready = [at for at in range(1, len(self.lines)) if self.lines[at - 1].startswith("frame") and self.lines[at + 3].startswith("frame")]
+        waiting = [at for at in ready if self.lines[at - 2].startswith("waits")]
+        self.assertEqual((len(ready), len(waiting)), (2, 1))
+        for at in ready:
+            lines = [*self.lines[:at + 3], *self.lines[at + 7:]]
+            self.assertEqual(self.line_of("\n".join(lines) + "\n"), at if at in waiting else at + 3)
+
+    def test_a_last_frame_that_is_made_one_ahead(self):
+        for at in range(1, len(self.lines)):
+            if self.lines[at - 1].startswith("frame") and not self.lines[at + 3].startswith("frame"):
+                lines = [*self.lines[:at + 3], *self.lines[at - 1:]]
+                self.assertEqual(self.line_of("\n".join(lines) + "\n"), at if self.lines[at - 1] != "frame 0 1" else at + 3)
+
     def test_a_waiting_thread_stands_at_a_join(self):
-        at = self.at("waits") + 1
+        at = self.at("waits") + 5
         code, row = map(int, self.lines[at - 1].split(" ")[1:])
         self.assertEqual(self.unit.codes[code].rows[row], ("join",))
         for other in range(len(self.unit.codes[code].rows)):
@@ -388,14 +405,16 @@ class Lines(unittest.TestCase):
             self.refuse(at, " ".join([*words, "w3"]), "piles", " ".join(words) + " ")
             if len(words) > 1:
                 self.refuse(at, " ".join(words[:-1]), " ".join([*words[:-1], "t999"]), " ".join([*words[:-1], "w805"]), " ".join([*words[:-1], "w8"]))
-        at = self.at("waits") + 4
-        number = int(self.lines[at - 5].split(" ")[1])
+        at = self.at("waits") + 8
+        number = int(self.lines[at - 9].split(" ")[1])
         self.assertEqual(self.lines[at - 1], f"pile w{8 * number + 5}")
         self.refuse(at, "pile w3", f"pile w{8 * number + 13}", f"pile w{8 * number + 1}", "pile w5")
         # The thread waited for is told twice, and must be there.
-        lines = list(self.lines)
-        lines[at - 5], lines[at - 1] = "waits 77", f"pile w{8 * 77 + 5}"
-        self.assertEqual(self.line_of("\n".join(lines) + "\n"), at - 4)
+        many = len([line for line in self.lines if line.split(" ")[0] in ("ready", "waits", "gave", "threw")])
+        for other, wanted in ((77, at - 8), (many, at - 8), (many - 1, None), (0, None)):
+            lines = list(self.lines)
+            lines[at - 9], lines[at - 1] = f"waits {other}", f"pile w{8 * other + 5}"
+            self.assertEqual(self.line_of("\n".join(lines) + "\n"), wanted)
 
     def test_last_and_things(self):
         at = self.at("last")
@@ -415,7 +434,10 @@ class Lines(unittest.TestCase):
         texts = self.unit.texts
         self.assertGreater(len(texts), 1)
         self.assertEqual(self.lines[at].split(" ")[:3], ["thing", "1", "text"])
-        self.refuse(at + 1, "thing 1 text w777", "thing 1 text", "thing 1 list", "thing 1 cell w3", "thing 1 text w929 w929", "thing 1 object w1 w3 w3")
+        self.refuse(at + 1, "thing 1 text w777", "thing 1 text", "thing 1 list", "thing 1 cell w3", "thing 1 text w929 w929", "thing 1 object w1 w3 w3", "thing 1 list w921")
+        many = len(texts)
+        self.assertEqual(self.lines[at + many - 1], f"thing {many} text" + "".join(f" w{8 * ord(sign) + 1}" for sign in texts[-1]))
+        self.refuse(at + many, f"thing {many} text w777 w777", f"thing {many} list")
         self.assertEqual(self.line_of(self.changed(at + 1)), at)
         self.assertEqual(self.line_of(self.changed(at + len(texts))), at)
 
@@ -507,6 +529,11 @@ class Lines(unittest.TestCase):
             if found is None:
                 self.assertTrue(self.lines[at - 1].startswith("said"), at)
                 self.assertEqual(resumed(self.unit, without, None, ()).image(), without)
+            elif self.lines[at - 1] == "ready" and self.lines[at - 2].startswith("pile"):
+                # The frame ahead is followed by those of the next thread, and stands behind no call.
+                self.assertEqual(found, at - 4)
+            elif not self.lines[at - 1].startswith(("gave", "threw", "thing")):
+                self.assertEqual(found, at)
             twice = self.changed(at, self.lines[at - 1], self.lines[at - 1])
             found = self.line_of(twice)
             if found is None:
@@ -544,6 +571,49 @@ class Lines(unittest.TestCase):
                 if len(holders) == 1:
                     line = [at for at, line in enumerate(self.lines, start=1) if line.startswith(f"thing {held} ")][0]
                     self.refuse(number, " ".join([*words[:3], "w3"]), wanted=line)
+
+
+class Hand(unittest.TestCase):
+    """Images that no machine writes, told by what the document asks alone."""
+
+    def test_functions_of_code_0(self):
+        unit = unit_of("var a = nil; yield(); say a;")
+        image = "ticks 1\ntops t1\nqueue 0\nready\nframe 0 4\nslots\ncalls w3\npile\nlast 1\nthing 1 function w1\n"
+        other = resumed(unit, image, None, ())
+        other.run(9)
+        self.assertEqual(other.lines(), ["function top"])
+
+    def test_a_frame_ahead_at_row_0(self):
+        """The last row is a call to which no way comes: row 0 is behind none."""
+        code = Code("top", 0, 0, 0, (("tick",), ("push", ("nil",)), ("give",), ("call", 0)), ())
+        unit = Unit((), (), (), (code, Code("f", 1, 1, 0, (("tick",), ("load", 0), ("give",)), ())))
+        image = "ticks 1\ntops\nqueue 0\nready\nframe 0 0\nslots\ncalls w3\npile\nframe 1 0\nslots w3\ncalls t1\npile\nlast 1\nthing 1 function w9\n"
+        self.assertEqual(told(resumed, unit, image, None, ()), ("BadImage", 5))
+
+    def test_methods_that_are_called_as_functions(self):
+        """The function called of a method's code is nil, or a function of this code."""
+        unit = unit_of_rows(("fun", 3, ()), ("push", ("nil",)), ("call", 1), ("pop",))
+        machine = Machine(unit, None, ())
+        machine.run(2)
+        image = machine.image()
+        self.assertIn("frame 3 1\nslots w3\ncalls t4\npile\n", image)
+        self.assertEqual(resumed(unit, image, None, ()).meaning(), machine.meaning())
+        other = image.replace("calls t4", "calls w3").replace("thing 4 function w25\n", "")
+        self.assertIsInstance(told(resumed, unit, other, None, ()), Machine)
+        self.assertEqual(told(resumed, unit, image.replace("calls t4", "calls t3"), None, ()), ("BadImage", 11))
+
+    def test_a_thread_that_waits_for_one_that_is_over(self):
+        unit = unit_of("try { join(spawn(fun() { })); } catch e { say e; }")
+        machine = Machine(unit, None, ())
+        machine.run(2)
+        image = machine.image().replace("queue 1", "queue")
+        at = image.index("ready")
+        image = image[:at] + "gave w3\n" + image[image.index("last"):]
+        image = "".join(line + "\n" for line in image.split("\n") if line and not line.startswith("thing"))
+        other = resumed(unit, image, Room(8, 30, 0), ())
+        self.assertEqual(other.is_over(), False)
+        other.run(9)
+        self.assertEqual((other.lines(), other.is_over()), (["fault stuck"], True))
 
 
 class Unset(unittest.TestCase):

@@ -1,16 +1,13 @@
 """What each row does in a machine.
 
-A row that leads on to the next one tells the name of the fault that it throws, or None; the other ones see to what is
-next themselves.
+Straight rows, which throw nothing, and those that work something out lead on to the next one; the other ones see to
+what is next themselves.
 """
 
 from unseenheap.laying import AHEAD
 from unseenheap.saying import line_of_word
 from unseenheap.words import INTEGER_TAG, NIL_WORD, TAGS, THREAD_TAG
-from unseenheap.workings import (
-    do_add, do_at, do_calculate, do_compare, do_equal, do_get, do_length, do_negative, do_not, do_number_of, do_put,
-    do_put_at, do_weak, do_worth, is_false, lay_for, sort_of_word,
-)
+from unseenheap.workings import WORKING, is_false, lay_for, sort_of_word
 
 MOST_FRAMES = 200
 
@@ -22,16 +19,20 @@ def step(core):
         return
     frame = core.strands[core.queue[0]].frames[-1]
     row = core.plan.rows[frame.code][frame.row]
-    if row[0] in LEADING:
-        action = LEADING[row[0]]
-        action(core, frame, row)
-    else:
-        action = STRAIGHT[row[0]]
-        fault = action(core, frame, row)
+    if row[0] in STRAIGHT:
+        straight = STRAIGHT[row[0]]
+        straight(core, frame, row)
+        frame.row += 1
+    elif row[0] in WORKING:
+        working = WORKING[row[0]]
+        fault = working(core, frame, row)
         if fault is None:
             frame.row += 1
         else:
             core.throw_fault(fault)
+    else:
+        leading = LEADING[row[0]]
+        leading(core, frame, row)
 
 
 def do_push(_core, frame, row):
@@ -135,18 +136,6 @@ def do_dup(_core, frame, _row):
     frame.pile.append(frame.pile[-1])
 
 
-def do_spawn(core, frame, _row):
-    """Begin a thread."""
-    word = frame.pile[-1]
-    if sort_of_word(core, word) != "function":
-        return "kind"
-    code = core.store.read(word // TAGS, 0) // TAGS
-    if core.plan.unit.codes[code].params > 0:
-        return "count"
-    lay_for(frame.pile, 1, core.begin_strand(code, word) * TAGS + THREAD_TAG)
-    return None
-
-
 def do_jump(_core, frame, row):
     """Go on at a row."""
     frame.row = row[1]
@@ -240,10 +229,7 @@ def begin_frame(core, frame, code, called, many, more):
 STRAIGHT = {
     "push": do_push, "text": do_text, "load": do_load, "store": do_store, "cell": do_cell, "peek": do_peek,
     "poke": do_poke, "see": do_see, "set": do_set, "name": do_name, "keep": do_keep, "fun": do_fun, "new": do_new,
-    "get": do_get, "put": do_put, "list": do_list, "at": do_at, "putat": do_put_at, "len": do_length, "weak": do_weak,
-    "worth": do_worth, "number": do_number_of, "neg": do_negative, "not": do_not, "add": do_add, "sub": do_calculate,
-    "mul": do_calculate, "div": do_calculate, "rem": do_calculate, "eq": do_equal, "lt": do_compare, "le": do_compare,
-    "say": do_say, "pop": do_pop, "dup": do_dup, "spawn": do_spawn,
+    "list": do_list, "say": do_say, "pop": do_pop, "dup": do_dup,
 }
 LEADING = {
     "jump": do_jump, "skip": do_skip, "call": do_call, "send": do_send, "up": do_up, "give": do_give,

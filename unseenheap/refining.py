@@ -112,21 +112,21 @@ class Refining:
             found.append(last)
         return found
 
-    def exchange(self, block, rows):
-        """Exchange the rows of a block for others, of which there are no more."""
+    def exchange(self, block, made):
+        """Exchange the rows of a block for others that are made, of which there are no more."""
         for at in block:
             if self.rows[at][0] in LEADING_TO:
                 told = self.rows[at][1]
                 self.tell(told, -1)
                 self.look_around(self.there(told))
-        for at, row in zip(block, rows):
+        for at, row in zip(block, made):
             self.rows[at] = row
             if row[0] in LEADING_TO:
                 self.tell(row[1], 1)
                 self.add_source(row[1], at)
-        if len(rows) > 1:
+        if len(made) > 1:
             self.depths[block[1]] = self.depths[block[0]] + 1
-        for at in block[len(rows):]:
+        for at in block[len(made):]:
             self.let_go(at)
         here = self.there(block[0])
         self.look_around(here)

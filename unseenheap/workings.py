@@ -1,13 +1,14 @@
 """Rows that work something out of the values at the end of a pile.
 
-Each takes values, and lays what comes out of them; or it tells the name of the fault that it throws, and what it would
-have taken may be left. What it takes is left on the pile while a thing is made, as things may be moved then.
+Each takes values, lays what comes out of them, and tells None; or it tells the name of the fault that it throws, and
+what it would have taken is left to be cut off. What it takes is left on the pile while a thing is made, too, as things
+may be moved then.
 """
 
 from unseenheap.laying import AHEAD, is_things
 from unseenheap.operators import MOST_PARTS
 from unseenheap.words import (
-    FALSE_WORD, GREATEST_INTEGER, INTEGER_TAG, LEAST_INTEGER, NIL_WORD, TAGS, TRUE_WORD,
+    FALSE_WORD, GREATEST_INTEGER, INTEGER_TAG, LEAST_INTEGER, NIL_WORD, TAGS, THREAD_TAG, TRUE_WORD,
 )
 
 
@@ -90,6 +91,7 @@ def do_negative(_core, frame, _row):
 def do_not(_core, frame, _row):
     """Whether a value is FALSE."""
     lay_for(frame.pile, 1, flag_word(is_false(frame.pile[-1])))
+    return None
 
 
 def do_add(core, frame, row):
@@ -133,6 +135,7 @@ def do_equal(core, frame, _row):
     if not answer and sort_of_word(core, one) == "text" and sort_of_word(core, other) == "text":
         answer = core.store.words_at(one // TAGS) == core.store.words_at(other // TAGS)
     lay_for(frame.pile, 2, flag_word(answer))
+    return None
 
 
 def do_compare(core, frame, row):
@@ -207,3 +210,23 @@ def do_put(core, frame, row):
     core.store.write(word // TAGS, place, value)
     del frame.pile[-2:]
     return None
+
+
+def do_spawn(core, frame, _row):
+    """Begin a thread."""
+    word = frame.pile[-1]
+    if sort_of_word(core, word) != "function":
+        return "kind"
+    code = core.store.read(word // TAGS, 0) // TAGS
+    if core.plan.unit.codes[code].params > 0:
+        return "count"
+    lay_for(frame.pile, 1, core.begin_strand(code, word) * TAGS + THREAD_TAG)
+    return None
+
+
+WORKING = {
+    "get": do_get, "put": do_put, "at": do_at, "putat": do_put_at, "len": do_length, "weak": do_weak,
+    "worth": do_worth, "number": do_number_of, "neg": do_negative, "not": do_not, "add": do_add, "sub": do_calculate,
+    "mul": do_calculate, "div": do_calculate, "rem": do_calculate, "eq": do_equal, "lt": do_compare, "le": do_compare,
+    "spawn": do_spawn,
+}
