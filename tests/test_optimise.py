@@ -347,6 +347,47 @@ class All(unittest.TestCase):
         for seed in range(25):
             self.check(compiled(drawn(seed)), seed)
 
+    def test_rules_that_come_behind_others(self):
+        """Rules far off that others make: what told a row that is another one now, blocks in which no row is told any more,
+        rows ahead that are dead then."""
+        ticks = (("tick",),) * 5
+        look = (("load", 0), ("skip", 12), ("load", 0), ("skip", 14))
+        rest = (("tick",), ("tick",), *END)
+        dead = (("pop",),) * 5
+        for unit, first, last in (
+            # A skip to a push and a skip, which become a jump.
+            (top(("load", 0), ("skip", 10), ("load", 0), ("skip", 12), *ticks, NIL, ("skip", 14), *rest), (10, "test"), [(2, "far")]),
+            # A skip to what is dropped ahead of a jump.
+            (top(("load", 0), ("skip", 10), ("load", 0), ("skip", 13), *ticks, NIL, ("pop",), ("jump", 15), *rest), (10, "drop"), [(2, "far")]),
+            # A skip to a row that leads to the next one, behind which a jump stands.
+            (top(*look, *ticks, ("tick",), ("tick",), ("jump", 13), ("jump", 16), ("tick",), ("tick",), *END), (2, "far"), None),
+            # A dead jump told a row of a block.
+            (top(("load", 0), ("store", 1), ("load", 1), ("give",), *dead, ("jump", 3), *dead), (5, "dead"), None),
+            (top(("load", 0), ("store", 1), ("load", 1), ("give",), *dead, ("skip", 3), *dead), (5, "dead"), None),
+            # A handler around dead rows alone told one.
+            (top(("load", 0), ("store", 1), ("load", 1), ("give",), *dead, *dead, *dead, handlers=((6, 12, 3, 0),)), (5, "dead"), None),
+            # Rows ahead to which nothing but a jump came that is dead then.
+            (top(("jump", 5), ("tick",), num(1), ("say",), ("tick",), NIL, ("skip", 9), ("jump", 2), *END), (6, "test"), None),
+            (top(("jump", 5), ("tick",), num(1), ("say",), ("tick",), num(5), ("skip", 10), *END, ("tick",), ("jump", 2)), (6, "test"), None),
+            # A jump to what becomes a give by another rule.
+            (top(("load", 0), ("skip", 10), num(1), ("jump", 12), *ticks, num(2), ("tick",), ("jump", 14), ("tick",), ("give",)), (4, "far"), None),
+        ):
+            self.assertIs(is_let(unit), True)
+            self.assertEqual(rules_at(unit, 0)[0], first)
+            if last is not None:
+                self.assertEqual(rules_at(ruled(unit, 0, *first), 0)[:1], last)
+            self.check(unit, 0)
+
+    def test_keep_again_by_its_depth(self):
+        for many, times in ((39998, 2), (39999, 1), (40000, 0)):
+            loads = 2 if many < 40000 else 0
+            unit = top(*[("load", 2)] * many, ("store", 1), *[("load", 1)] * loads, ("throw",))
+            self.assertIs(is_let(unit), True)
+            found = optimised(unit)
+            self.assertIs(is_let(found), True)
+            rows = (*[("dup",)] * times, ("store", 1), *[("load", 1)] * (loads - times))
+            self.assertEqual(found, top(*[("load", 2)] * many, *rows, ("throw",)))
+
     def test_each_code_for_itself(self):
         unit = compiled(read("fun f() { return 1 + 2; say 3; } class A { m() { 5; } } say -(2 * 3); fun() { if nil { say 1; } };"))
         self.assertEqual([code.rows for code in optimised(unit).codes], [

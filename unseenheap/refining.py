@@ -78,20 +78,12 @@ class Refining:
             heappush(self.waiting, at)
 
     def look_around(self, at):
-        """Let a row, and those at which blocks with it may begin, be looked at again."""
-        self.look_at_later(at)
-        for _ in range(REACH):
-            at = self.ahead[at] if at < self.many else self.last_row()
-            if at < 0:
-                return
+        """Let a row, if it is one, and those at which blocks with it may begin, be looked at again."""
+        left = REACH
+        while left >= 0 and 0 <= at < self.many:
             self.look_at_later(at)
-
-    def last_row(self):
-        """The last row that is there."""
-        at = self.many - 1
-        while self.is_gone[at]:
             at = self.ahead[at]
-        return at
+            left -= 1
 
     def next_waiting(self):
         """The least row that is to be looked at, or None."""
