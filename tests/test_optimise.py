@@ -369,6 +369,12 @@ class All(unittest.TestCase):
             # Rows ahead to which nothing but a jump came that is dead then.
             (top(("jump", 5), ("tick",), num(1), ("say",), ("tick",), NIL, ("skip", 9), ("jump", 2), *END), (6, "test"), None),
             (top(("jump", 5), ("tick",), num(1), ("say",), ("tick",), num(5), ("skip", 10), *END, ("tick",), ("jump", 2)), (6, "test"), None),
+            # Two pushes and an add that are parted by what goes behind them.
+            (top(num(1), num(2), ("load", 0), ("pop",), ("add",), ("give",)), (3, "drop"), [(1, "fold")]),
+            (top(num(1), num(2), ("jump", 4), ("sub",), ("give",)), (3, "next"), [(1, "fold")]),
+            # A skip that was led to a row by a rule, in the place of which a jump comes then.
+            (top(("load", 0), ("skip", 9), ("load", 0), ("skip", 10), ("load", 0), ("skip", 14), *END, ("jump", 12), num(1),
+                 ("give",), FALSE, ("skip", 16), num(2), ("give",), num(3), ("say",), *END), (2, "far"), [(9, "dead")]),
             # A jump to what becomes a give by another rule.
             (top(("load", 0), ("skip", 10), num(1), ("jump", 12), *ticks, num(2), ("tick",), ("jump", 14), ("tick",), ("give",)), (4, "far"), None),
         ):
